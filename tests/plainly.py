@@ -1,0 +1,232 @@
+"""Plain readings by definition, to test the program against, and things to test it with.
+
+Nothing here uses the package except for the errors' and classes' names in the tests themselves.
+"""
+
+import random
+
+
+def rows(alphabet, most, least=0):
+    """All rows with least to most letters, from the least on."""
+    level = [""]
+    told = [] if least else [""]
+    for length in range(1, most + 1):
+        level = [row + letter for row in level for letter in alphabet]
+        if length >= least:
+            told += level
+    return told
+
+
+def placed(alphabet, most):
+    """All placed rows whose rows have at most that many letters, from the least on."""
+    return [(row, place) for row in rows(alphabet, most) for place in range(len(row))]
+
+
+def led(alphabet, moves, letters):
+    """The standing to which these letters, in this order, lead a reader."""
+    standing = 0
+    for letter in letters:
+        standing = moves[standing][alphabet.index(letter)]
+    return standing
+
+
+def at_place(machine, row, place):
+    """The standings and the letter at a place: (p, letter, q)."""
+    alphabet, left, right = machine
+    ahead, behind = row[:place], row[place + 1:]
+    return led(alphabet, left, ahead), row[place], led(alphabet, right, reversed(behind))
+
+
+def pair_marks(pair, row):
+    """The marks of a pair in a row."""
+    machine = (pair.alphabet, pair.left, pair.right)
+    return tuple(at_place(machine, row, place) in pair.marked for place in range(len(row)))
+
+
+def layer_row(layer, row):
+    """The row to which a layer leads a row."""
+    machine = (layer.alphabet, layer.left, layer.right)
+    made = ""
+    for place in range(len(row)):
+        p, letter, q = at_place(machine, row, place)
+        made += layer.told[p][layer.alphabet.index(letter)][q]
+    return made
+
+
+def classes(alphabet, telling, side, most, further):
+    """The classes of rows alike ahead (behind): the least rows, and what leads to what.
+
+    telling(row) has one thing for each place. Rows of at most `most` letters are looked at, within rows
+    of at most `further` letters more. Told are the least rows of the classes, ascending, and for each of
+    them the numbers of the classes to which one letter more leads (a row that is too long: None).
+    """
+    experiments = rows(alphabet, further)
+
+    def signature(row):
+        if side == "left":
+            return tuple(telling(row + other)[len(row):] for other in experiments)
+        return tuple(telling(other + row)[:len(other)] for other in experiments)
+
+    number = {}
+    leasts = []
+    for row in rows(alphabet, most):
+        told = signature(row)
+        if told not in number:
+            number[told] = len(leasts)
+            leasts.append(row)
+
+    def after(row, letter):
+        return number.get(signature(row + letter if side == "left" else letter + row))
+
+    return leasts, tuple(tuple(after(row, letter) for letter in alphabet) for row in leasts)
+
+
+def table(alphabet, telling, most, further):
+    """The least machine by definition: left moves, right moves, and for each standing, letter and standing
+    what is told there."""
+    heads, left = classes(alphabet, telling, "left", most, further)
+    tails, right = classes(alphabet, telling, "right", most, further)
+    told = tuple(
+        tuple(tuple(telling(u + a + w)[len(u)] for w in tails) for a in alphabet) for u in heads
+    )
+    return left, right, told
+
+
+def marked_of(alphabet, told):
+    """The triples of a table of True and False."""
+    return tuple(
+        (p, letter, q)
+        for p, items in enumerate(told)
+        for letter, row in zip(alphabet, items)
+        for q, holds in enumerate(row)
+        if holds
+    )
+
+
+def random_moves(source, letters, standings):
+    """Moves of a reader by chance."""
+    return tuple(tuple(source.randrange(standings) for _ in range(letters)) for _ in range(standings))
+
+
+def random_pair_parts(source, alphabet, most):
+    """The arguments of a pair by chance, with at most so many standings on a side."""
+    p, q = source.randint(1, most), source.randint(1, most)
+    share = source.choice((0.2, 0.5, 0.8))
+    marked = tuple(
+        (x, letter, y) for x in range(p) for letter in alphabet for y in range(q) if source.random() < share
+    )
+    return alphabet, random_moves(source, len(alphabet), p), random_moves(source, len(alphabet), q), marked
+
+
+def random_layer_parts(source, alphabet, target, most):
+    """The arguments of a layer by chance, with at most so many standings on a side."""
+    p, q = source.randint(1, most), source.randint(1, most)
+    letters = target if source.random() < 0.7 else target[0] * 4 + target
+    told = tuple(
+        tuple(tuple(source.choice(letters) for _ in range(q)) for _ in alphabet) for _ in range(p)
+    )
+    left, right = random_moves(source, len(alphabet), p), random_moves(source, len(alphabet), q)
+    return alphabet, target, left, right, told
+
+
+def chance(number):
+    """A source of chance that is the same each time."""
+    return random.Random(number)
+
+
+def counter(letters, many, counted=(0,)):
+    """Moves that count the letters with these numbers modulo many."""
+    return tuple(
+        tuple((standing + 1) % many if letter in counted else standing for letter in range(letters))
+        for standing in range(many)
+    )
+
+
+def tense_holds(sheet, row, number, place):
+    """Whether a part of a tense sheet holds at a place of a row, word for word."""
+    word, *rest = sheet[number]
+
+    def holds(part, at):
+        return tense_holds(sheet, row, part, at)
+
+    after, before = range(place + 1, len(row)), range(place)
+    if word in ("yes", "no"):
+        return word == "yes"
+    if word == "letter":
+        return row[place] == rest[0]
+    if word == "not":
+        return not holds(rest[0], place)
+    if word == "and":
+        return holds(rest[0], place) and holds(rest[1], place)
+    if word == "or":
+        return holds(rest[0], place) or holds(rest[1], place)
+    if word == "next":
+        return place + 1 < len(row) and holds(rest[0], place + 1)
+    if word == "prev":
+        return place > 0 and holds(rest[0], place - 1)
+    if word == "until":
+        return any(
+            holds(rest[1], m) and all(holds(rest[0], n) for n in range(place + 1, m)) for m in after
+        )
+    return any(holds(rest[1], m) and all(holds(rest[0], n) for n in range(m + 1, place)) for m in before)
+
+
+def named_holds(sheet, row, number, places):
+    """Whether a part of a named sheet holds in a row with these places, word for word."""
+    word, *rest = sheet[number]
+
+    def holds(part, told):
+        return named_holds(sheet, row, part, told)
+
+    if word in ("yes", "no"):
+        return word == "yes"
+    if word == "letter":
+        return row[places[rest[1]]] == rest[0]
+    if word == "less":
+        return places[rest[0]] < places[rest[1]]
+    if word == "same":
+        return places[rest[0]] == places[rest[1]]
+    if word == "not":
+        return not holds(rest[0], places)
+    if word == "and":
+        return holds(rest[0], places) and holds(rest[1], places)
+    if word == "or":
+        return holds(rest[0], places) or holds(rest[1], places)
+    each = [holds(rest[1], {**places, rest[0]: place}) for place in range(len(row))]
+    return any(each) if word == "some" else all(each)
+
+
+def random_sheet(source, alphabet, forms, many, names="xyz"):
+    """A sheet by chance; forms has pairs of a word and the kinds of the things behind it."""
+    sheet = []
+    while len(sheet) < many:
+        word, kinds = source.choice(forms)
+        if "part" in kinds and not sheet:
+            continue
+        choices = {"part": range(len(sheet)), "letter": alphabet, "name": names}
+        sheet.append((word, *(source.choice(choices[kind]) for kind in kinds)))
+    return tuple(sheet)
+
+
+TENSE_FORMS = (
+    ("yes", ()), ("no", ()), ("letter", ("letter",)), ("not", ("part",)), ("and", ("part", "part")),
+    ("or", ("part", "part")), ("next", ("part",)), ("prev", ("part",)), ("until", ("part", "part")),
+    ("since", ("part", "part")),
+)
+NAMED_FORMS = (
+    ("yes", ()), ("no", ()), ("not", ("part",)), ("and", ("part", "part")), ("or", ("part", "part")),
+    ("letter", ("letter", "name")), ("less", ("name", "name")), ("same", ("name", "name")),
+    ("some", ("name", "part")), ("all", ("name", "part")),
+)
+
+
+def as_lists(thing):
+    """The same with a list in the place of each tuple, at any depth."""
+    return [as_lists(item) for item in thing] if isinstance(thing, (tuple, list)) else thing
+
+
+def is_tuples(thing):
+    """Whether there is no list at any depth."""
+    return not isinstance(thing, list) and (
+        not isinstance(thing, tuple) or all(is_tuples(item) for item in thing)
+    )

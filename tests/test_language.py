@@ -1,0 +1,335 @@
+"""The files of the package keep to the subset of the language: what can be seen in the code."""
+
+import ast
+import builtins
+import os
+import re
+import unittest
+
+HERE = os.path.dirname(os.path.dirname(os.path.abspath(__file__)))
+PACKAGE = os.path.join(HERE, "saidhere")
+BUILTINS = set(
+    "len range enumerate zip min max sum abs sorted reversed int str bool bytes list tuple dict set frozenset"
+    " isinstance ord repr any all divmod pow getattr hasattr setattr iter next map super property staticmethod"
+    " classmethod Exception ValueError TypeError KeyError IndexError LookupError ZeroDivisionError"
+    " ArithmeticError OverflowError RuntimeError NotImplementedError AttributeError StopIteration"
+    " NotImplemented".split()
+)
+METHODS = set(
+    "append clear copy count endswith extend find get index insert isalnum isalpha isdigit islower isspace"
+    " isupper items join keys ljust lower lstrip partition pop remove replace reverse rfind rjust rpartition"
+    " rsplit rstrip setdefault split splitlines startswith strip update upper values zfill bit_length".split()
+)
+BARRED_NAMES = set("register mro elements open input law version_info with_traceback add_note".split())
+BARRED_WORDS = (
+    "type typing typing_extensions enum Enum IntEnum StrEnum Flag IntFlag Generic Protocol ABC ABCMeta"
+    " namedtuple NamedTuple TypedDict TYPE_CHECKING abstractmethod"
+).split()
+DOUBLE = set(
+    "init eq repr str len enter exit call iter lt le gt ge ne add sub mul floordiv mod pow and or xor lshift"
+    " rshift neg pos invert abs bool contains getitem setitem".split()
+)
+NODES = (
+    ast.Module, ast.FunctionDef, ast.ClassDef, ast.Return, ast.Delete, ast.Assign, ast.AugAssign, ast.For,
+    ast.While, ast.If, ast.With, ast.Match, ast.Raise, ast.Try, ast.Assert, ast.ImportFrom, ast.Nonlocal,
+    ast.Expr, ast.Pass, ast.Break, ast.Continue, ast.BoolOp, ast.BinOp, ast.UnaryOp, ast.Lambda, ast.IfExp,
+    ast.Dict, ast.Set, ast.ListComp, ast.SetComp, ast.DictComp, ast.GeneratorExp, ast.Yield, ast.YieldFrom,
+    ast.Compare, ast.Call, ast.FormattedValue, ast.JoinedStr, ast.Constant, ast.Attribute, ast.Subscript,
+    ast.Starred, ast.Name, ast.List, ast.Tuple, ast.Slice, ast.expr_context, ast.boolop, ast.operator,
+    ast.unaryop, ast.cmpop, ast.comprehension, ast.ExceptHandler, ast.arguments, ast.arg, ast.keyword,
+    ast.alias, ast.withitem,
+)
+INTERFACE = {
+    "plain": "is_alphabet is_row each_row",
+    "tense": "tense_sheet heights pasts comings mirrored_sheet",
+    "named": "named_sheet free_names names_used",
+    "pairs": "Pair",
+    "leastpair": "least parted_ahead parted_behind",
+    "alike": "alike Likeness judge_alike",
+    "layers": "Layer least_layer layer_of",
+}
+
+
+def files():
+    return sorted(name for name in os.listdir(PACKAGE) if name != "__pycache__")
+
+
+def source(name):
+    with open(os.path.join(PACKAGE, name), encoding="utf-8") as held:
+        return held.read()
+
+
+def trees():
+    return {name: ast.parse(source(name)) for name in files()}
+
+
+def bound(tree):
+    """All names that a file binds, except attributes."""
+    names = []
+    for node in ast.walk(tree):
+        if isinstance(node, ast.Name) and not isinstance(node.ctx, ast.Load):
+            names.append(node.id)
+        elif isinstance(node, ast.arg):
+            names.append(node.arg)
+        elif isinstance(node, (ast.FunctionDef, ast.ClassDef)):
+            names.append(node.name)
+        elif isinstance(node, ast.alias):
+            names.append(node.asname or node.name)
+    return names
+
+
+class TheLanguage(unittest.TestCase):
+    def each(self):
+        for name, tree in trees().items():
+            with self.subTest(file=name):
+                yield name, tree
+
+    def test_files(self):
+        self.assertLessEqual(len(files()), 100)
+        for name in files():
+            self.assertRegex(name, r"^[a-z0-9_]+\.py$")
+            stem = name[:-3]
+            self.assertNotIn(stem, dir(builtins))
+            self.assertNotRegex(stem, r"^(law_.*|test|tests|testing|test_.*|site|conftest)$")
+
+    def test_size_and_characters(self):
+        for name in files():
+            text = source(name)
+            lines = text.split("\n")
+            self.assertLessEqual(len(lines) - 1, 399, name)
+            self.assertLessEqual(max(map(len, lines)), 120, name)
+            self.assertTrue(all(x == "\n" or " " <= x <= "~" for x in text), name)
+
+    def test_length_of_functions(self):
+        for name, tree in self.each():
+            for node in ast.walk(tree):
+                if isinstance(node, ast.FunctionDef):
+                    self.assertLessEqual(node.end_lineno - node.lineno + 1, 40, (name, node.name))
+
+    def test_only_allowed_nodes(self):
+        for name, tree in self.each():
+            for node in ast.walk(tree):
+                self.assertIsInstance(node, NODES, (name, getattr(node, "lineno", 0)))
+                if isinstance(node, (ast.BinOp, ast.AugAssign)):
+                    self.assertNotIsInstance(node.op, (ast.Div, ast.MatMult), name)
+                if isinstance(node, ast.Constant):
+                    self.assertNotIsInstance(node.value, (float, complex), name)
+                    self.assertIsNot(node.value, Ellipsis)
+
+    def test_imports(self):
+        needs = {}
+        for name, tree in self.each():
+            own = [node for node in tree.body if isinstance(node, ast.ImportFrom)]
+            every = [node for node in ast.walk(tree) if isinstance(node, (ast.ImportFrom, ast.Import))]
+            self.assertEqual(len(own), len(every), name)
+            needs[name] = []
+            for node in own:
+                self.assertEqual(node.level, 0)
+                self.assertRegex(node.module, r"^saidhere\.[a-z]+$")
+                file = node.module.split(".")[1] + ".py"
+                needs[name].append(file)
+                tree_there = ast.parse(source(file))
+                there = [
+                    target.id for top in tree_there.body if isinstance(top, ast.Assign) for target in top.targets
+                ]
+                there += [top.name for top in tree_there.body if hasattr(top, "name")]
+                for alias in node.names:
+                    self.assertIsNone(alias.asname)
+                    self.assertIn(alias.name, there, (name, file))
+        settled = []
+        while len(settled) < len(needs):
+            ready = [n for n in needs if n not in settled and all(x in settled for x in needs[n])]
+            self.assertTrue(ready, "files import from each other")
+            settled += ready
+
+    def test_imports_are_used(self):
+        for name, tree in self.each():
+            used = {node.id for node in ast.walk(tree) if isinstance(node, ast.Name)}
+            for node in tree.body:
+                if isinstance(node, ast.ImportFrom):
+                    for alias in node.names:
+                        self.assertIn(alias.name, used, name)
+
+    def test_module_level(self):
+        for name, tree in self.each():
+            tops = []
+            for at, node in enumerate(tree.body):
+                if at == 0:
+                    self.assertTrue(ast.get_docstring(tree), name)
+                    continue
+                self.assertIsInstance(node, (ast.ImportFrom, ast.FunctionDef, ast.ClassDef, ast.Assign), name)
+                if isinstance(node, ast.Assign):
+                    self.assertEqual(len(node.targets), 1)
+                    ast.literal_eval(node.value)
+                    tops.append(node.targets[0].id)
+                elif isinstance(node, ast.ImportFrom):
+                    tops += [alias.name for alias in node.names]
+                else:
+                    tops.append(node.name)
+            self.assertEqual(len(tops), len(set(tops)), name)
+            classes = [node.name for node in tree.body if isinstance(node, ast.ClassDef)]
+            imports = [a.name for node in tree.body if isinstance(node, ast.ImportFrom) for a in node.names]
+            for function in ast.walk(tree):
+                if isinstance(function, (ast.FunctionDef, ast.Lambda)):
+                    inner = [arg.arg for arg in ast.walk(function) if isinstance(arg, ast.arg)]
+                    inner += [
+                        node.id for node in ast.walk(function)
+                        if isinstance(node, ast.Name) and not isinstance(node.ctx, ast.Load)
+                    ]
+                    for word in inner:
+                        self.assertNotIn(word, classes + imports, name)
+
+    def test_names(self):
+        for name, tree in self.each():
+            for word in bound(tree):
+                if re.match(r"^__[a-z]+__$", word):
+                    self.assertIn(word[2:-2], DOUBLE, name)
+                    continue
+                self.assertRegex(word, r"^_?[A-Za-z][A-Za-z0-9_]*$|^_$", name)
+                self.assertNotIn(word, BARRED_NAMES, name)
+                self.assertNotIn(word, dir(builtins), name)
+                self.assertNotRegex(word, r"^(_wall|_pe_|_dcw_|_enum_|_cm_|_twin_re_|_lay_|_law_|_stub_|_sre)")
+            for node in ast.walk(tree):
+                if isinstance(node, ast.Attribute):
+                    self.assertNotIn(node.attr, BARRED_NAMES | {"format", "format_map", "args"}, name)
+                    self.assertFalse(node.attr.startswith("__"), name)
+
+    def test_builtins(self):
+        for name, tree in self.each():
+            own = set(bound(tree))
+            for node in ast.walk(tree):
+                if isinstance(node, ast.Name) and isinstance(node.ctx, ast.Load) and node.id not in own:
+                    self.assertIn(node.id, BUILTINS, (name, node.lineno))
+
+    def test_methods_of_builtin_values(self):
+        own = set(METHODS)
+        for _, tree in trees().items():
+            own |= {node.name for node in ast.walk(tree) if isinstance(node, ast.FunctionDef)}
+        for name, tree in self.each():
+            for node in ast.walk(tree):
+                if isinstance(node, ast.Call) and isinstance(node.func, ast.Attribute):
+                    self.assertIn(node.func.attr, own, (name, node.lineno))
+                    if node.func.attr in METHODS:
+                        self.assertEqual(node.keywords, [], (name, node.lineno))
+
+    def test_attributes_are_assigned(self):
+        stored = set(METHODS)
+        for _, tree in trees().items():
+            for node in ast.walk(tree):
+                if isinstance(node, ast.Attribute) and isinstance(node.ctx, ast.Store):
+                    stored.add(node.attr)
+                if isinstance(node, ast.FunctionDef):
+                    stored.add(node.name)
+        for name, tree in self.each():
+            for node in ast.walk(tree):
+                if isinstance(node, ast.Attribute):
+                    self.assertIn(node.attr, stored, (name, node.lineno))
+
+    def test_decorators(self):
+        for name, tree in self.each():
+            methods = [
+                node for top in ast.walk(tree) if isinstance(top, ast.ClassDef) for node in top.body
+            ]
+            for node in ast.walk(tree):
+                if isinstance(node, ast.ClassDef):
+                    self.assertEqual(node.decorator_list, [])
+                if isinstance(node, ast.FunctionDef) and node.decorator_list:
+                    self.assertIn(node, methods, name)
+                    self.assertEqual(len(node.decorator_list), 1)
+
+    def test_generator_expressions_and_sets(self):
+        # Classes of the package have == of their own, so these builtins take lists.
+        whole = ("any", "all", "min", "max", "sum", "sorted")
+        for name, tree in self.each():
+            for node in ast.walk(tree):
+                self.assertNotIsInstance(node, (ast.Set, ast.SetComp), name)
+                if isinstance(node, ast.Call) and isinstance(node.func, ast.Name):
+                    if node.func.id in whole:
+                        for arg in node.args:
+                            self.assertNotIsInstance(arg, ast.GeneratorExp, (name, node.lineno))
+                    if node.func.id in ("sorted", "len"):
+                        continue
+                    for arg in node.args:
+                        called = isinstance(arg, ast.Call) and isinstance(arg.func, ast.Name)
+                        self.assertFalse(called and arg.func.id == "set", (name, node.lineno))
+
+    def test_stars_in_calls(self):
+        for name, tree in self.each():
+            for node in ast.walk(tree):
+                if isinstance(node, ast.Call):
+                    for arg in node.args:
+                        if isinstance(arg, ast.Starred):
+                            self.assertIsInstance(arg.value, (ast.Name, ast.Attribute), (name, node.lineno))
+
+    def test_lazy_calls_stand_where_they_are_iterated(self):
+        lazy = ("zip", "enumerate", "reversed", "map")
+        takers = ("list", "tuple", "dict", "sorted", "sum", "any", "all", "enumerate", "zip", "min", "max")
+        for name, tree in self.each():
+            good = []
+            for node in ast.walk(tree):
+                if isinstance(node, (ast.For, ast.comprehension)):
+                    good.append(node.iter)
+                if isinstance(node, ast.Call) and isinstance(node.func, ast.Name) and node.func.id in takers:
+                    good += node.args[:1]
+            for node in ast.walk(tree):
+                if isinstance(node, ast.Call):
+                    called = node.func.id if isinstance(node.func, ast.Name) else ""
+                    view = isinstance(node.func, ast.Attribute) and node.func.attr in ("items", "keys", "values")
+                    if called in lazy or view:
+                        self.assertIn(node, good, (name, node.lineno))
+
+    def test_strings_and_words(self):
+        for name, tree in self.each():
+            told = [
+                node.body[0].value for node in ast.walk(tree)
+                if isinstance(node, (ast.Module, ast.ClassDef, ast.FunctionDef)) and ast.get_docstring(node)
+            ]
+            for node in ast.walk(tree):
+                if isinstance(node, ast.Constant) and isinstance(node.value, str):
+                    self.assertNotIn("%", node.value, name)
+                    self.assertNotIn("__", node.value, name)
+                    if node not in told:
+                        for word in BARRED_WORDS:
+                            self.assertNotRegex(node.value, rf"\b{word}\b", name)
+            text = source(name)
+            for word in ("_wall", "_WallAttr", "dataclass", "overload", "contextmanager", "Meta", "(type)"):
+                self.assertNotIn(word, text, name)
+
+    def test_no_trying_and_no_state(self):
+        for name, tree in self.each():
+            for node in ast.walk(tree):
+                self.assertNotIsInstance(node, (ast.Global, ast.Try, ast.With), name)
+                if isinstance(node, ast.FunctionDef):
+                    for default in node.args.defaults + node.args.kw_defaults:
+                        ast.literal_eval(default)
+
+    def test_errors_are_raised_on_the_spot(self):
+        for name, tree in self.each():
+            for node in ast.walk(tree):
+                if isinstance(node, ast.Raise):
+                    self.assertIsInstance(node.exc, ast.Call, (name, node.lineno))
+                    self.assertEqual(node.exc.keywords, [], (name, node.lineno))
+
+    def test_the_interface_is_defined_where_it_is_listed(self):
+        for file, words in INTERFACE.items():
+            tree = ast.parse(source(file + ".py"))
+            defined = [node.name for node in tree.body if isinstance(node, (ast.FunctionDef, ast.ClassDef))]
+            for word in words.split():
+                self.assertIn(word, defined, file)
+
+    def test_methods_stand_in_their_class(self):
+        methods = {
+            ("pairs", "Pair"): "__init__ __call__ __contains__ __and__ __or__ __invert__ __eq__ of_letters",
+            ("alike", "Likeness"): "__bool__",
+            ("layers", "Layer"): "__init__ __call__ __mul__ __eq__ mark_of same",
+        }
+        for (file, name), words in methods.items():
+            tree = ast.parse(source(file + ".py"))
+            body = [node for node in tree.body if getattr(node, "name", "") == name][0].body
+            defined = [node.name for node in body if isinstance(node, ast.FunctionDef)]
+            for word in words.split():
+                self.assertIn(word, defined)
+
+
+if __name__ == "__main__":
+    unittest.main()
