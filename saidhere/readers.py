@@ -102,5 +102,5 @@ def reached_behind(alphabet, readers, most):
                     check_most(len(items), most)
         level = newer
     letters = range(len(alphabet))
-    moves = [tuple([found[item_after(readers, item, number)] for number in letters]) for item in items]
+    moves = [tuple([found[item_after(readers, item, k)] for k in letters]) for item in items]
     return items, rows, moves

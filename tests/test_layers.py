@@ -483,6 +483,13 @@ class Joining(unittest.TestCase):
                 with self.assertRaises(TooMany) as held:
                     ab_counter(one, side) * again(other, side)
                 self.assertEqual(held.exception.word, "standing")
+            # What the first layer counts is lost, so what it stands at does not make more classes.
+            deaf = Layer("abcd", "ab", *(again(40, side).left, again(40, side).right), tuple(
+                tuple(tuple("b" if letter in "efgh" else "a" for letter in told) for told in items)
+                for items in again(40, side).told
+            ))
+            self.assertEqual(getattr(ab_counter(39, side) * deaf, side), counter(2, 40, (0, 1)))
+            self.assertEqual(getattr(ab_counter(7, side) * deaf, side), counter(2, 40, (0, 1)))
         both = ab_counter(5, "left") * again(8, "left")
         self.assertEqual((len(both.left), len(both.right)), (40, 1))
         both = ab_counter(40, "left") * again(40, "right")

@@ -73,6 +73,21 @@ class Sheets(unittest.TestCase):
                     function("ab", (YES, ("less", "x", "y"), part, YES))
                 self.assertEqual(held.exception.number, 2, part)
 
+    def test_names_and_letters(self):
+        for number in range(32, 127):
+            for made, good in (
+                (lambda name: ("same", name, "x"), "uvwxyz"), (lambda name: ("less", "x", name), "uvwxyz"),
+                (lambda name: ("some", name, 0), "uvwxyz"), (lambda name: ("all", name, 0), "uvwxyz"),
+                (lambda name: ("letter", "a", name), "uvwxyz"), (lambda letter: ("letter", letter, "x"), "abcdefg"),
+            ):
+                sheet = (YES, made(chr(number)))
+                if chr(number) in list(good):
+                    self.assertEqual(named_sheet("abcdefg", sheet), sheet)
+                else:
+                    with self.assertRaises(BadSheet) as held:
+                        named_sheet("abcdefg", sheet)
+                    self.assertEqual(held.exception.number, 1)
+
     def test_number_of_names(self):
         four = (("less", "u", "v"), ("some", "w", 0), ("letter", "a", "z"))
         for function in FUNCTIONS:

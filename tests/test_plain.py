@@ -22,6 +22,10 @@ class Alphabets(unittest.TestCase):
         for word in map("".join, itertools.product("abci", repeat=3)):
             self.assertIs(is_alphabet(word), word == "abc", word)
 
+    def test_single_characters(self):
+        for number in range(32, 127):
+            self.assertIs(is_alphabet(chr(number)), chr(number) in list("abcdefgh"))
+
     def test_other_things(self):
         for thing in NO_ALPHABETS:
             self.assertIs(is_alphabet(thing), False, thing)
