@@ -1,5 +1,8 @@
 """What kind of thing was passed."""
 
+NAME_LETTERS = "abcdefghijklmnopqrstuvwxyz"
+MOST_NAME = 8
+
 
 def is_whole(thing):
     """Whether the thing is an integer; True and False are none."""
@@ -14,3 +17,10 @@ def is_below(thing, many):
 def is_listing(thing):
     """Whether the thing is a tuple, or a list in its place."""
     return isinstance(thing, (tuple, list))
+
+
+def is_name(thing):
+    """Whether the thing is a string of 1 to 8 letters from a to z."""
+    if not isinstance(thing, str) or not 1 <= len(thing) <= MOST_NAME:
+        return False
+    return all([letter in NAME_LETTERS for letter in thing])

@@ -72,6 +72,14 @@ def machine_of(layer):
     return layer.left, layer.right, told
 
 
+def led_row(layer, row):
+    """The row to which the layer leads a row, however long."""
+    ahead = standings_ahead(layer.alphabet, layer.left, row)
+    behind = standings_behind(layer.alphabet, layer.right, row)
+    letters = [layer.alphabet.find(letter) for letter in row]
+    return "".join([layer.told[p][k][q] for p, k, q in zip(ahead, letters, behind)])
+
+
 class Layer:
     """What leads each row over an alphabet to a row over a target, place by place."""
 
@@ -86,10 +94,7 @@ class Layer:
 
     def __call__(self, row):
         check_row(self.alphabet, row)
-        ahead = standings_ahead(self.alphabet, self.left, row)
-        behind = standings_behind(self.alphabet, self.right, row)
-        letters = [self.alphabet.find(letter) for letter in row]
-        return "".join([self.told[p][k][q] for p, k, q in zip(ahead, letters, behind)])
+        return led_row(self, row)
 
     def __mul__(self, other):
         if self.target != other.alphabet:

@@ -30,19 +30,66 @@ def has_form(alphabet, table, number, part):
     return all([fits(alphabet, kind, number, thing) for kind, thing in zip(kinds, part[1:])])
 
 
-def kept_sheet(alphabet, forms, sheet):
-    """The sheet as tuples; forms has pairs of a word and the kinds of the things behind it."""
+def wrong_part(alphabet, forms, sheet):
+    """The number of the first part without one of the forms: -1 for the whole, None if it is a sheet.
+
+    Forms has pairs of a word and the kinds of the things behind it.
+    """
     if not is_listing(sheet) or not 1 <= len(sheet) <= MOST_PARTS:
-        raise BadSheet(-1)
+        return -1
     table = dict(forms)
-    kept = []
     for number, part in enumerate(sheet):
         if not has_form(alphabet, table, number, part):
-            raise BadSheet(number)
-        kept.append(tuple(part))
-    return tuple(kept)
+            return number
+    return None
+
+
+def kept_sheet(alphabet, forms, sheet):
+    """The sheet as tuples."""
+    number = wrong_part(alphabet, forms, sheet)
+    if number is not None:
+        raise BadSheet(number)
+    return tuple([tuple(part) for part in sheet])
 
 
 def referred(part):
     """The numbers of the parts to which a part of a kept sheet refers."""
     return [thing for thing in part[1:] if isinstance(thing, int)]
+
+
+def renumbered(part, numbers):
+    """The part with its references led to other numbers."""
+    return tuple([numbers[thing] if isinstance(thing, int) else thing for thing in part])
+
+
+def needed(kept, wanted):
+    """The numbers of the parts wanted, and of those that they refer to, directly or through others, ascending."""
+    found = {number: True for number in wanted}
+    for number in range(len(kept) - 1, -1, -1):
+        if number in found:
+            for other in referred(kept[number]):
+                found[other] = True
+    return sorted(found)
+
+
+def tidied(kept, last):
+    """The tidy sheet of the sheet that ends with this part.
+
+    Parts are listed as a text would list them: behind those that they refer to, the left one first,
+    and a part that is equal to a listed one not again.
+    """
+    numbers = {}
+    listed = {}
+    waiting = [last]
+    while waiting:
+        at = waiting[-1]
+        ahead = [number for number in referred(kept[at]) if number not in numbers]
+        if ahead:
+            waiting.append(ahead[0])
+        else:
+            part = renumbered(kept[at], numbers)
+            if part not in listed:
+                listed[part] = len(listed)
+            numbers[at] = listed[part]
+            waiting.pop()
+    return tuple(list(listed))

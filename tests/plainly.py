@@ -230,3 +230,136 @@ def is_tuples(thing):
     return not isinstance(thing, list) and (
         not isinstance(thing, tuple) or all(is_tuples(item) for item in thing)
     )
+
+
+SET_FORMS = (
+    ("none", ()), ("empty", ()), ("letter", ("letter",)), ("not", ("part",)), ("and", ("part", "part")),
+    ("or", ("part", "part")), ("then", ("part", "part")),
+)
+
+
+def set_holds(sheet, row, number):
+    """Whether a part of a set sheet has the row, word for word."""
+    word, *rest = sheet[number]
+    if word in ("none", "empty"):
+        return word == "empty" and row == ""
+    if word == "letter":
+        return row == rest[0]
+    if word == "not":
+        return not set_holds(sheet, row, rest[0])
+    if word == "then":
+        cuts = range(len(row) + 1)
+        return any(set_holds(sheet, row[:k], rest[0]) and set_holds(sheet, row[k:], rest[1]) for k in cuts)
+    both = [set_holds(sheet, row, part) for part in rest]
+    return all(both) if word == "and" else any(both)
+
+
+def cut_holds(sheet, cuts, row, place):
+    """Whether at least one cut applies at the place."""
+    return any(
+        row[place] == a and set_holds(sheet, row[:place], i) and set_holds(sheet, row[place + 1:], j)
+        for i, a, j in cuts
+    )
+
+
+def tree(sheet, number):
+    """A part with the parts that it refers to in it, in the place of their numbers."""
+    return tuple(tree(sheet, thing) if isinstance(thing, int) else thing for thing in sheet[number])
+
+
+def tidy(sheet):
+    """The tidy sheet: the different trees in the last one, each behind those within it, from the left on."""
+    listed = []
+
+    def visit(one):
+        for thing in one:
+            if isinstance(thing, tuple):
+                visit(thing)
+        if one not in listed:
+            listed.append(one)
+
+    visit(tree(sheet, len(sheet) - 1))
+    return tuple(
+        tuple(listed.index(thing) if isinstance(thing, tuple) else thing for thing in one) for one in listed
+    )
+
+
+def bracketed(one):
+    """The text of a tree with brackets around each formula within another one, but for single words."""
+    word, *rest = one
+
+    def inner(thing):
+        text = bracketed(thing)
+        return f"({text})" if any(isinstance(x, tuple) for x in thing) else text
+
+    if word == "letter":
+        return " at ".join(rest)
+    if word in ("less", "same"):
+        return f"{rest[0]} {'<' if word == 'less' else '='} {rest[1]}"
+    if word in ("or", "and", "until", "since", "then"):
+        return f"{inner(rest[0])} {word} {inner(rest[1])}"
+    if word in ("some", "all"):
+        return f"{word} {rest[0]} {inner(rest[1])}"
+    return f"{word} {inner(rest[0])}" if rest else word
+
+
+# The rules of the texts, as [8] and [9] tell them; each line is one way, " " stands for a blank.
+LETTER_RULES = {"letter": [["a"], ["b"]], "name": [[name] for name in "uvwxyz"]}
+TENSE_RULES = {
+    "F": [["G", "ors"]], "ors": [[], [" ", "or", " ", "G", "ors"]],
+    "G": [["H", "ands"]], "ands": [[], [" ", "and", " ", "H", "ands"]],
+    "H": [["P"], ["P", " ", "until", " ", "P"], ["P", " ", "since", " ", "P"]],
+    "P": [["A"], ["not", " ", "P"], ["next", " ", "P"], ["prev", " ", "P"]],
+    "A": [["yes"], ["no"], ["letter"], ["(", "F", ")"]], **LETTER_RULES,
+}
+NAMED_RULES = {
+    "F": [["G", "ors"]], "ors": [[], [" ", "or", " ", "G", "ors"]],
+    "G": [["P", "ands"]], "ands": [[], [" ", "and", " ", "P", "ands"]],
+    "P": [["A"], ["not", " ", "P"], ["some", " ", "name", " ", "P"], ["all", " ", "name", " ", "P"]],
+    "A": [
+        ["yes"], ["no"], ["letter", " ", "at", " ", "name"], ["name", " ", "<", " ", "name"],
+        ["name", " ", "=", " ", "name"], ["(", "F", ")"],
+    ], **LETTER_RULES,
+}
+SET_RULES = {
+    "F": [["G", "ors"]], "ors": [[], [" ", "or", " ", "G", "ors"]],
+    "G": [["H", "ands"]], "ands": [[], [" ", "and", " ", "H", "ands"]],
+    "H": [["P", "thens"]], "thens": [[], [" ", "then", " ", "P", "thens"]],
+    "P": [["A"], ["not", " ", "P"]],
+    "A": [["none"], ["empty"], ["letter"], ["(", "F", ")"]], **LETTER_RULES,
+}
+
+
+def units(text):
+    """The words of a text, as long as possible, and its other characters."""
+    told = []
+    for at, sign in enumerate(text):
+        letter = "a" <= sign <= "z"
+        if letter and at > 0 and "a" <= text[at - 1] <= "z":
+            told[-1] += sign
+        else:
+            told.append(sign)
+    return told
+
+
+def bad_at(rules, text):
+    """Where a text is bad, by trying all ways of the rules; None if it is good."""
+
+    def opened(stacks):
+        found = set()
+        while stacks:
+            stack = stacks.pop()
+            if stack and stack[0] in rules:
+                stacks += [tuple(way) + stack[1:] for way in rules[stack[0]]]
+            else:
+                found.add(stack)
+        return found
+
+    stacks = opened([("F",)])
+    at = 0
+    for unit in units(text):
+        stacks = opened([stack[1:] for stack in stacks if stack and stack[0] == unit])
+        if not stacks:
+            return at
+        at += len(unit)
+    return None if () in stacks else len(text)

@@ -47,6 +47,15 @@ INTERFACE = {
     "leastpair": "least parted_ahead parted_behind",
     "alike": "alike Likeness judge_alike",
     "layers": "Layer least_layer layer_of",
+    "plainsets": "set_sheet cut_list",
+    "meaning": "tense_marks named_holds named_marks cut_marks set_has",
+    "tidying": "tidy_tense tidy_named tidy_set",
+    "tensetext": "read_tense write_tense",
+    "namedtext": "read_named write_named",
+    "settext": "read_set write_set",
+    "sayings": "saying",
+    "books": "Book",
+    "layerworks": "parted_layers drawn_back put_in",
 }
 
 
@@ -322,6 +331,7 @@ class TheLanguage(unittest.TestCase):
             ("pairs", "Pair"): "__init__ __call__ __contains__ __and__ __or__ __invert__ __eq__ of_letters",
             ("alike", "Likeness"): "__bool__",
             ("layers", "Layer"): "__init__ __call__ __mul__ __eq__ mark_of same",
+            ("books", "Book"): "__init__ __getitem__ __contains__ __iter__ __len__ __eq__",
         }
         for (file, name), words in methods.items():
             tree = ast.parse(source(file + ".py"))
