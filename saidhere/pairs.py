@@ -32,11 +32,10 @@ def kept_marked(alphabet, left, right, thing):
 
 def masks_of_triples(alphabet, many, marked):
     """For each of so many left standings, the mask of the marked right standings for each letter."""
-    told = [[0] * len(alphabet) for _ in range(many)]
+    found = {}
     for standing, letter, other in marked:
-        number = alphabet.find(letter)
-        told[standing][number] = told[standing][number] | (1 << other)
-    return tuple([tuple(masks) for masks in told])
+        found[(standing, letter)] = found.get((standing, letter), 0) | (1 << other)
+    return tuple([tuple([found.get((standing, letter), 0) for letter in alphabet]) for standing in range(many)])
 
 
 def triples_of_masks(alphabet, many, table):

@@ -87,6 +87,139 @@ def bound(tree):
     return names
 
 
+OPERATORS = DOUBLE - {"init", "enter", "exit", "call", "iter", "setitem"}
+CHANGING = set("append clear extend insert pop remove reverse setdefault update sort add discard".split())
+
+
+def definitions():
+    """All functions of the package by their names; a class is called by its __init__."""
+    found = {}
+    for name, tree in trees().items():
+        for node in ast.walk(tree):
+            if isinstance(node, ast.FunctionDef):
+                found.setdefault(node.name, []).append((name, node))
+            if isinstance(node, ast.ClassDef):
+                inits = [one for one in node.body if isinstance(one, ast.FunctionDef) and one.name == "__init__"]
+                found.setdefault(node.name, []).extend((name, one) for one in inits)
+    return found
+
+
+def is_property(node):
+    return any(isinstance(one, ast.Name) and one.id == "property" for one in node.decorator_list)
+
+
+def run_by_operators():
+    """The functions that operators, properties and the like run, directly or through others."""
+    known = definitions()
+    waiting = []
+    for name, told in known.items():
+        for file, node in told:
+            if (name.startswith("__") and name[2:-2] in OPERATORS) or is_property(node):
+                waiting.append((file, node))
+    found = []
+    while waiting:
+        file, node = waiting.pop()
+        if any(node is other for _, other in found):
+            continue
+        found.append((file, node))
+        for call in ast.walk(node):
+            if isinstance(call, ast.Call):
+                name = call.func.id if isinstance(call.func, ast.Name) else getattr(call.func, "attr", "")
+                if isinstance(call.func, ast.Attribute) and name in METHODS:
+                    continue
+                waiting += known.get(name, [])
+    return found
+
+
+def is_new(node):
+    """Whether an expression surely makes a list or a dict."""
+    if isinstance(node, (ast.List, ast.ListComp, ast.Dict, ast.DictComp)):
+        return True
+    if isinstance(node, ast.BinOp) and isinstance(node.op, ast.Add):
+        return is_new(node.left) or is_new(node.right)
+    return (
+        isinstance(node, ast.Call) and isinstance(node.func, ast.Name) and node.func.id in ("list", "dict", "sorted")
+    )
+
+
+def has_new_items(node):
+    """Whether an expression makes a list or a dict all items of which are written as new ones."""
+    if isinstance(node, ast.ListComp):
+        return is_new(node.elt) and not isinstance(node.elt, ast.BinOp)
+    if isinstance(node, ast.List):
+        return all(is_new(item) and not isinstance(item, ast.BinOp) for item in node.elts)
+    return isinstance(node, ast.Dict) and not node.keys
+
+
+def assigned(function):
+    """What each local name is assigned in a function; None stands for anything."""
+    found = {arg.arg: [None] for arg in ast.walk(function) if isinstance(arg, ast.arg)}
+    for node in ast.walk(function):
+        if isinstance(node, ast.Assign):
+            for target in node.targets:
+                if isinstance(target, ast.Name):
+                    found.setdefault(target.id, []).append(node.value)
+                elif isinstance(target, (ast.Tuple, ast.List)):
+                    for one in ast.walk(target):
+                        if isinstance(one, ast.Name):
+                            found.setdefault(one.id, []).append(None)
+        elif isinstance(node, (ast.For, ast.comprehension)):
+            for one in ast.walk(node.target):
+                if isinstance(one, ast.Name):
+                    found.setdefault(one.id, []).append(None)
+    return found
+
+
+def changed(function):
+    """What a function changes: the lists and dicts whose items are stored, deleted, or changed by a method."""
+    for node in ast.walk(function):
+        if isinstance(node, ast.Subscript) and not isinstance(node.ctx, ast.Load):
+            yield node.value
+        if isinstance(node, ast.Call) and isinstance(node.func, ast.Attribute) and node.func.attr in CHANGING:
+            yield node.func.value
+
+
+class WhatOperatorsRun(unittest.TestCase):
+    def test_it_is_found(self):
+        names = {node.name for _, node in run_by_operators()}
+        for name in ("__and__", "__mul__", "__getitem__", "masks_of_triples", "feeders", "numbered", "check_row", "crossed"):
+            self.assertIn(name, names)
+
+    def test_only_what_is_surely_new_is_changed(self):
+        for file, function in run_by_operators():
+            held = assigned(function)
+            for thing in changed(function):
+                where = (file, function.name, thing.lineno)
+                if isinstance(thing, ast.Name):
+                    self.assertTrue(all(worth is not None and is_new(worth) for worth in held[thing.id]), where)
+                else:
+                    # An item of a list all of whose items are written as new ones.
+                    self.assertIsInstance(thing, ast.Subscript, where)
+                    self.assertIsInstance(thing.value, ast.Name, where)
+                    worths = held[thing.value.id]
+                    self.assertTrue(all(worth is not None and has_new_items(worth) for worth in worths), where)
+
+    def test_sums_and_attributes(self):
+        for file, function in run_by_operators():
+            for node in ast.walk(function):
+                where = (file, function.name, getattr(node, "lineno", 0))
+                if isinstance(node, ast.AugAssign):
+                    self.assertIsInstance(node.target, ast.Name, where)
+                    self.assertIsInstance(node.op, (ast.Add, ast.Sub), where)
+                    self.assertIsInstance(node.value, ast.Constant, where)
+                    self.assertIsInstance(node.value.value, int, where)
+                if isinstance(node, ast.Attribute) and not isinstance(node.ctx, ast.Load):
+                    self.assertEqual(function.name, "__init__", where)
+                    self.assertEqual(node.value.id, "self", where)
+
+    def test_nothing_that_is_passed_is_called(self):
+        for file, function in run_by_operators():
+            held = assigned(function)
+            for node in ast.walk(function):
+                if isinstance(node, ast.Call) and isinstance(node.func, ast.Name) and node.func.id != "cls":
+                    self.assertNotIn(node.func.id, held, (file, function.name, node.lineno))
+
+
 class TheLanguage(unittest.TestCase):
     def each(self):
         for name, tree in trees().items():
