@@ -27,7 +27,7 @@ def without(vector, worth, other):
 
 def rest_of(basis, vector):
     """What is left of a vector without those of the basis, each of which alone is not 0 at its own index."""
-    rest = vector
+    rest = list(vector)
     for at, worth in enumerate(vector):
         if worth and at in basis:
             rest = without(rest, worth, basis[at])
@@ -77,7 +77,7 @@ def free_behind(alphabet, readers):
                     basis = widened(basis, rest)
                     newer.append((letter + row, follower))
         kept = kept + newer
-        level = newer
+        level = list(newer)
     return kept
 
 

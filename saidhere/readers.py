@@ -100,7 +100,7 @@ def reached_behind(alphabet, readers, most):
                     items.append(follower)
                     rows.append(letter + rows[at])
                     check_most(len(items), most)
-        level = newer
+        level = list(newer)
     letters = range(len(alphabet))
     moves = [tuple([found[item_after(readers, item, k)] for k in letters]) for item in items]
     return items, rows, moves

@@ -220,6 +220,111 @@ class WhatOperatorsRun(unittest.TestCase):
                     self.assertNotIn(node.func.id, held, (file, function.name, node.lineno))
 
 
+def called_by_name(node, names):
+    return isinstance(node, ast.Call) and isinstance(node.func, ast.Name) and node.func.id in names
+
+
+VIEWS = ("items", "keys", "values")
+CHANGING_CALLS = ("heappush", "heappop", "heapify", "heapreplace", "heappushpop")
+
+
+def held_by(node):
+    """The names of what an expression may give without making it new: a name, a field, an item, a choice."""
+    if isinstance(node, ast.Name):
+        return [node.id]
+    if isinstance(node, (ast.Attribute, ast.Subscript, ast.Starred)):
+        return held_by(node.value)
+    if isinstance(node, ast.IfExp):
+        return held_by(node.body) + held_by(node.orelse)
+    if isinstance(node, ast.BoolOp):
+        return [name for worth in node.values for name in held_by(worth)]
+    if isinstance(node, ast.NamedExpr):
+        return held_by(node.target) + held_by(node.value)
+    if called_by_name(node, ("enumerate", "zip", "reversed", "iter", "map")):
+        return [name for arg in node.args for name in held_by(arg)]
+    if isinstance(node, ast.Call) and isinstance(node.func, ast.Attribute):
+        if node.func.attr in VIEWS + ("get", "setdefault", "pop"):
+            return held_by(node.func.value)
+    return []
+
+
+def several_names(function):
+    """For each name of a function, all names that plain assignments let stand for the same thing as it."""
+    same = {}
+    for node in ast.walk(function):
+        if not isinstance(node, ast.Assign):
+            continue
+        sides = node.targets + [node.value]
+        parts = [one for side in sides for one in (side.elts if isinstance(side, (ast.Tuple, ast.List)) else [side])]
+        names = [name for part in parts for name in held_by(part)]
+        group = set(names)
+        for name in names:
+            group |= same.get(name, {name})
+        for name in group:
+            same[name] = group
+    return same
+
+
+def changed_names(nodes):
+    """The names of the lists and dicts that some statements change, also through their fields and items."""
+    for top in nodes:
+        for node in ast.walk(top):
+            if isinstance(node, (ast.Subscript, ast.Attribute)) and not isinstance(node.ctx, ast.Load):
+                yield from held_by(node.value)
+            elif isinstance(node, ast.AugAssign):
+                yield from held_by(node.target)
+            elif isinstance(node, ast.Call) and isinstance(node.func, ast.Attribute) and node.func.attr in CHANGING:
+                yield from held_by(node.func.value)
+            elif called_by_name(node, CHANGING_CALLS):
+                yield from held_by(node.args[0])
+
+
+def loops(function):
+    """Each loop and comprehension of a function: what it walks, and what it runs meanwhile."""
+    for node in ast.walk(function):
+        if isinstance(node, ast.For):
+            yield node.iter, node.body
+        elif isinstance(node, (ast.ListComp, ast.DictComp, ast.SetComp, ast.GeneratorExp)):
+            for one in node.generators:
+                yield one.iter, [node]
+
+
+def walked_and_changed(function):
+    """The lines at which a function may change what a loop walks, under whatever name."""
+    same = several_names(function)
+    for walked, body in loops(function):
+        names = set()
+        for name in held_by(walked):
+            names |= same.get(name, {name})
+        if names & set(changed_names(body)):
+            yield walked.lineno
+
+
+class WhatLoopsWalk(unittest.TestCase):
+    def lines(self, text):
+        return list(walked_and_changed(ast.parse(text).body[0]))
+
+    def test_what_is_found(self):
+        heads = ("level", "list(level)", "enumerate(level)", "level[0]", "level.rows", "(level if x else y)", "zip(y, level)")
+        for head in heads:
+            for change in ("newer.append(a)", "newer[0] = a", "newer.rows.append(a)", "newer[1].pop()", "del newer[0]"):
+                text = f"def told(x, y):\n  while x:\n    newer = []\n    for a in {head}:\n      {change}\n    level = newer"
+                self.assertEqual(self.lines(text), [] if head == "list(level)" else [4], (head, change))
+                self.assertEqual(self.lines(text.replace("= newer", "= list(newer)")), [])
+                self.assertEqual(self.lines(text.replace("= newer", "= newer + []")), [])
+                self.assertEqual(len(self.lines(text.replace("= newer", "= x or newer"))), head != "list(level)")
+                self.assertEqual(len(self.lines(text.replace("level =", "level, y ="))), head != "list(level)")
+                self.assertEqual(len(self.lines(text.replace("level = newer", "level, x = newer, y"))), head != "list(level)")
+        self.assertEqual(self.lines("def told(x):\n  for a in x:\n    x.append(a)"), [2])
+        self.assertEqual(self.lines("def told(x):\n  y = [x.pop() for a in x]"), [2])
+
+    def test_nothing_that_a_loop_walks_is_changed_in_it(self):
+        for name, tree in trees().items():
+            for node in ast.walk(tree):
+                if isinstance(node, ast.FunctionDef):
+                    self.assertEqual(list(walked_and_changed(node)), [], (name, node.name))
+
+
 class TheLanguage(unittest.TestCase):
     def each(self):
         for name, tree in trees().items():
