@@ -81,3 +81,12 @@ def least_machine(alphabet, left, right, table):
     things, _, least_right = reached_behind(alphabet, (class_moves(backward, behind, lasts),), None)
     kept = [rights[lasts[thing[0]]] for thing in things]
     return least_left, least_right, [picked(shorter[item[0]], kept) for item in items]
+
+
+def mirrored_masks(left, right, table):
+    """The machine that tells of the reversed rows what this one tells of the rows."""
+    letters = range(len(left[0]))
+    turned = []
+    for standing in range(len(right)):
+        turned.append(tuple([mask_of([has_bit(masks[k], standing) for masks in table]) for k in letters]))
+    return right, left, turned

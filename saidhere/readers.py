@@ -48,19 +48,19 @@ def item_after(readers, item, letter):
     return tuple([reader[standing][letter] for reader, standing in zip(readers, item)])
 
 
-def check_most(many, most):
-    """Raise TooMany if there are more standings than most; None is no bound."""
+def check_most(many, most, word="standing"):
+    """Raise TooMany if there are more things than most; None is no bound."""
     if most is not None and many > most:
-        raise TooMany("standing")
+        raise TooMany(word)
 
 
-def reached_ahead(alphabet, readers, most):
-    """The items to which rows lead left readers, in the order of their least rows.
+def walked_ahead(alphabet, readers, begin, most, word):
+    """The items to which rows lead left readers from an item, in the order of their least rows.
 
     Told are the items, their least rows, and the moves by the numbers of the items.
     """
-    items = [tuple([0 for _ in readers])]
-    found = {items[0]: 0}
+    items = [begin]
+    found = {begin: 0}
     rows = [""]
     moves = []
     at = 0
@@ -72,21 +72,21 @@ def reached_ahead(alphabet, readers, most):
                 found[follower] = len(items)
                 items.append(follower)
                 rows.append(rows[at] + letter)
-                check_most(len(items), most)
+                check_most(len(items), most, word)
             move.append(found[follower])
         moves.append(tuple(move))
         at += 1
     return items, rows, moves
 
 
-def reached_behind(alphabet, readers, most):
-    """The same as reached_ahead for right readers; the least rows are meant as they are written.
+def walked_behind(alphabet, readers, begin, most, word):
+    """The same as walked_ahead for right readers; the least rows are meant as they are written.
 
     A right reader comes to the first letter of a row last, so the rows of one length are met in
     ascending order if the letter put in front is gone through outside of the rows it is put to.
     """
-    items = [tuple([0 for _ in readers])]
-    found = {items[0]: 0}
+    items = [begin]
+    found = {begin: 0}
     rows = [""]
     level = [0]
     while level:
@@ -99,8 +99,18 @@ def reached_behind(alphabet, readers, most):
                     newer.append(len(items))
                     items.append(follower)
                     rows.append(letter + rows[at])
-                    check_most(len(items), most)
+                    check_most(len(items), most, word)
         level = list(newer)
     letters = range(len(alphabet))
     moves = [tuple([found[item_after(readers, item, k)] for k in letters]) for item in items]
     return items, rows, moves
+
+
+def reached_ahead(alphabet, readers, most):
+    """What walked_ahead tells of the item at which left readers begin."""
+    return walked_ahead(alphabet, readers, tuple([0 for _ in readers]), most, "standing")
+
+
+def reached_behind(alphabet, readers, most):
+    """What walked_behind tells of the item at which right readers begin."""
+    return walked_behind(alphabet, readers, tuple([0 for _ in readers]), most, "standing")

@@ -363,3 +363,68 @@ def bad_at(rules, text):
             return at
         at += len(unit)
     return None if () in stacks else len(text)
+
+
+def flag_letter(alphabet, names, letter, borne):
+    """The number of a flagged letter, word for word."""
+    return alphabet.index(letter) * 2 ** len(names) + sum(2 ** j for j, name in enumerate(names) if name in borne)
+
+
+def flag_accepts(reader, row, flags):
+    """Whether a flag reader accepts a row whose places bear these names, one collection for each place."""
+    standing = 0
+    for letter, borne in zip(row, flags):
+        standing = reader.moves[standing][flag_letter(reader.alphabet, reader.names, letter, borne)]
+    return standing in reader.accepted
+
+
+def flagged_rows(alphabet, names, most):
+    """All flagged rows with at most so many places, from the least on: tuples of (letter, borne names)."""
+    letters = [
+        (letter, tuple(name for j, name in enumerate(names) if bits >> j & 1))
+        for letter in alphabet for bits in range(2 ** len(names))
+    ]
+    level = [()]
+    told = [()]
+    for _ in range(most):
+        level = [row + (letter,) for row in level for letter in letters]
+        told += level
+    return told
+
+
+def is_proper(names, flagged):
+    """Whether each name stands at exactly one place."""
+    borne = [name for _, some in flagged for name in some]
+    return all(borne.count(name) == 1 for name in names)
+
+
+def places_of(names, flagged):
+    """The places of the names of a proper flagged row, in their order."""
+    return tuple(next(k for k, (_, some) in enumerate(flagged) if name in some) for name in names)
+
+
+def reader_takes(reader, flagged):
+    """Whether a flag reader accepts a flagged row."""
+    return flag_accepts(reader, [letter for letter, _ in flagged], [some for _, some in flagged])
+
+
+def least_flag_reader(alphabet, names, accepts, most, further):
+    """The moves and the accepted standings of the least reader of a set of flagged rows, by definition.
+
+    accepts(flagged) tells the set; rows of at most `most` places are told apart by at most `further` more.
+    """
+    rests = flagged_rows(alphabet, names, further)
+    letters = flagged_rows(alphabet, names, 1)[1:]
+
+    def signature(flagged):
+        return tuple(accepts(flagged + rest) for rest in rests)
+
+    number = {}
+    leasts = []
+    for flagged in flagged_rows(alphabet, names, most):
+        told = signature(flagged)
+        if told not in number:
+            number[told] = len(leasts)
+            leasts.append(flagged)
+    moves = tuple(tuple(number.get(signature(row + letter)) for letter in letters) for row in leasts)
+    return moves, tuple(k for k, row in enumerate(leasts) if accepts(row))

@@ -56,6 +56,15 @@ INTERFACE = {
     "sayings": "saying",
     "books": "Book",
     "layerworks": "parted_layers drawn_back put_in",
+    "booklines": "read_book write_book taken_up",
+    "pairworks": "mirrored marked_rows",
+    "turnings": "maps judge_steady is_steady turning Turn",
+    "flags": "Reader",
+    "tensein": "derive_tense",
+    "tensejudge": "first_wrong_tense",
+    "namedin": "derive_named",
+    "namedjudge": "first_wrong_named",
+    "setsin": "derive_sets",
 }
 
 
@@ -84,6 +93,8 @@ def bound(tree):
             names.append(node.name)
         elif isinstance(node, ast.alias):
             names.append(node.asname or node.name)
+        elif isinstance(node, ast.ExceptHandler) and node.name:
+            names.append(node.name)
     return names
 
 
@@ -542,10 +553,21 @@ class TheLanguage(unittest.TestCase):
             for word in ("_wall", "_WallAttr", "dataclass", "overload", "contextmanager", "Meta", "(type)"):
                 self.assertNotIn(word, text, name)
 
-    def test_no_trying_and_no_state(self):
+    def test_only_own_errors_are_caught(self):
+        own = {node.name for node in ast.parse(source("errors.py")).body if isinstance(node, ast.ClassDef)}
         for name, tree in self.each():
             for node in ast.walk(tree):
-                self.assertNotIsInstance(node, (ast.Global, ast.Try, ast.With), name)
+                if isinstance(node, ast.Try):
+                    self.assertEqual(node.finalbody, [], name)
+                    for handler in node.handlers:
+                        caught = handler.type.elts if isinstance(handler.type, ast.Tuple) else [handler.type]
+                        for one in caught:
+                            self.assertIn(one.id, own, (name, node.lineno))
+
+    def test_no_state(self):
+        for name, tree in self.each():
+            for node in ast.walk(tree):
+                self.assertNotIsInstance(node, (ast.Global, ast.With), name)
                 if isinstance(node, ast.FunctionDef):
                     for default in node.args.defaults + node.args.kw_defaults:
                         ast.literal_eval(default)
@@ -570,6 +592,8 @@ class TheLanguage(unittest.TestCase):
             ("alike", "Likeness"): "__bool__",
             ("layers", "Layer"): "__init__ __call__ __mul__ __eq__ mark_of same",
             ("books", "Book"): "__init__ __getitem__ __contains__ __iter__ __len__ __eq__",
+            ("turnings", "Turn"): "__init__ shown",
+            ("flags", "Reader"): "__init__ __call__ __eq__ __len__",
         }
         for (file, name), words in methods.items():
             tree = ast.parse(source(file + ".py"))
