@@ -12,7 +12,7 @@ from saidhere.plain import is_alphabet, is_letter
 from saidhere.readers import MOST_STANDINGS
 from saidhere.sayings import saying
 from saidhere.settext import read_set
-from saidhere.sheets import renumbered
+from saidhere.sheets import joined_parts
 from saidhere.tensetext import read_tense
 from saidhere.writing import text_of
 
@@ -134,27 +134,13 @@ def groups_of(pieces):
     return groups
 
 
-def joined_sheet(sheets):
-    """One sheet with the parts of some tidy sheets, each part once, and the number of the last part of each."""
-    listed = {}
-    lasts = []
-    for sheet in sheets:
-        numbers = []
-        for part in sheet:
-            kept = renumbered(part, numbers)
-            if kept not in listed:
-                listed[kept] = len(listed)
-            numbers.append(listed[kept])
-        lasts.append(numbers[-1])
-    return tuple(list(listed)), lasts
-
-
 def cuts_saying(group):
     """The saying of the pieces of cuts."""
     letters = [piece[1] for piece in group if piece[0] == "cut"]
-    sheet, lasts = joined_sheet([piece[1] for piece in group if piece[0] in ("ahead", "behind")])
+    sheet, told = joined_parts([piece[1] for piece in group if piece[0] in ("ahead", "behind")])
     if not letters:
         return "cuts", (("none",),), ()
+    lasts = [numbers[-1] for numbers in told]
     return "cuts", sheet, tuple(list(zip(lasts[0::2], letters, lasts[1::2])))
 
 

@@ -17,11 +17,13 @@ def single_machine(alphabet, names, part):
     return explored(Single(alphabet, names, part))
 
 
-def part_machine(alphabet, names, part, readers):
-    """The machine of a part with these free names, from the readers of the parts that it refers to."""
-    if not readers:
+def part_machine(alphabet, names, part, sides):
+    """The machine of a part with these free names.
+
+    The sides are the names and the machines of the parts that it refers to.
+    """
+    if not sides:
         return single_machine(alphabet, names, part)
-    sides = [(reader.names, machine_of_reader(reader)) for reader in readers]
     inner, machine = sides[0]
     if part[0] == "then":
         return then_machine(machine, sides[1][1])
@@ -62,7 +64,8 @@ class FlagSteps:
         key = renumbered(part, numbers)
         if key not in self.steps:
             ahead = [self.readers[numbers[number]] for number in referred(part)]
-            machine = part_machine(self.alphabet, names, part, ahead)
+            sides = [(reader.names, machine_of_reader(reader)) for reader in ahead]
+            machine = part_machine(self.alphabet, names, part, sides)
             self.steps[key] = self.number_of(reader_of(self.alphabet, names, machine))
         return self.steps[key]
 

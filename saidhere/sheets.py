@@ -93,3 +93,18 @@ def tidied(kept, last):
             numbers[at] = listed[part]
             waiting.pop()
     return tuple(list(listed))
+
+
+def joined_parts(lists):
+    """The parts of several lists in one, each part once, and for each list the numbers that its parts have there."""
+    listed = {}
+    told = []
+    for parts in lists:
+        numbers = []
+        for part in parts:
+            kept = renumbered(part, numbers)
+            if kept not in listed:
+                listed[kept] = len(listed)
+            numbers.append(listed[kept])
+        told.append(numbers)
+    return tuple(list(listed)), told

@@ -428,3 +428,48 @@ def least_flag_reader(alphabet, names, accepts, most, further):
             leasts.append(flagged)
     moves = tuple(tuple(number.get(signature(row + letter)) for letter in letters) for row in leasts)
     return moves, tuple(k for k, row in enumerate(leasts) if accepts(row))
+
+
+def maps_of_moves(moves, most=400):
+    """All maps of the rows that a reader reads, up to so many."""
+    letters = range(len(moves[0]))
+    found = [tuple(range(len(moves)))]
+    for item in found:
+        if len(found) > most:
+            break
+        for k in letters:
+            after = tuple(moves[standing][k] for standing in item)
+            if after not in found:
+                found.append(after)
+    return found
+
+
+def map_turns(item):
+    """Whether some standing is led back not at once, but after some times."""
+    for standing in range(len(item)):
+        at, many = item[standing], 1
+        while at != standing and many <= len(item):
+            at, many = item[at], many + 1
+        if at == standing and many > 1:
+            return True
+    return False
+
+
+def steady_moves(source, letters, standings):
+    """Moves by chance of a reader all of whose standings are met, and none of whose maps turns."""
+    while True:
+        moves = random_moves(source, letters, standings)
+        met = [0]
+        for standing in met:
+            met += [s for s in dict.fromkeys(moves[standing]) if s not in met]
+        if len(met) == standings and not any(map_turns(item) for item in maps_of_moves(moves)):
+            return moves
+
+
+def steady_pair_parts(source, alphabet, left, right):
+    """The arguments of a pair by chance, with so many standings a side, neither of which turns."""
+    marked = tuple(
+        (p, letter, q) for p in range(left) for letter in alphabet for q in range(right) if source.random() < 0.5
+    )
+    letters = len(alphabet)
+    return alphabet, steady_moves(source, letters, left), steady_moves(source, letters, right), marked
