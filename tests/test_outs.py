@@ -2,6 +2,7 @@
 
 import copy
 import unittest
+from unittest import mock
 
 from saidhere.cutsout import cuts_of
 from saidhere.errors import BadAlphabet, BadCut, BadSheet, TooMany, Unsayable
@@ -19,6 +20,7 @@ from saidhere.setsjudge import first_wrong_sets
 from saidhere.splitting import split_of
 from saidhere.tense import tense_sheet
 from saidhere.tensein import derive_tense
+from saidhere.tensetext import read_tense, write_tense
 from saidhere.tensejudge import first_wrong_tense
 from saidhere.tenseout import tense_of
 from saidhere.tidying import tidy_tense
@@ -117,6 +119,58 @@ class TenseOf(unittest.TestCase):
                 self.assertEqual(held.exception.word, "map")
         with self.assertRaises(Unsayable):
             tense_of(pair=ring_pair("right") & EVEN)
+
+
+class TooManyParts(unittest.TestCase):
+    def test_readers_with_many_maps(self):
+        # The reader has 298 maps, none of which turns.
+        many = ((1, 1, 1), (2, 2, 2), (2, 2, 3), (2, 3, 5), (3, 4, 5), (4, 4, 6), (6, 5, 7), (7, 7, 7))
+        pair = Pair("abc", many, ((0, 0, 0),), tuple((p, "abc"[p % 3], 0) for p in range(8)))
+        for call in (tense_of, cuts_of):
+            with self.assertRaises(TooMany) as held:
+                call(pair)
+            self.assertEqual(held.exception.word, "part")
+
+    def test_the_number_of_parts(self):
+        pair = Pair(*awkward_parts(chance(438), "ab", 3, 3))
+        for call, module in ((tense_of, "tenseout"), (lambda pair: cuts_of(pair)[0], "cutsout")):
+            many = len(call(pair))
+            with mock.patch(f"saidhere.{module}.MOST_PARTS", many):
+                self.assertEqual(len(call(pair)), many)
+            with mock.patch(f"saidhere.{module}.MOST_PARTS", many - 1):
+                with self.assertRaises(TooMany) as held:
+                    call(pair)
+            self.assertEqual(held.exception.word, "part")
+
+
+class Short(unittest.TestCase):
+    """How short sheets are is not promised, but that they are makes them good to read, and to be carried on."""
+
+    def test_texts(self):
+        for text, wanted in (
+            ("a", "a"), ("no", "no"), ("yes", "yes"), ("a or b", "yes"), ("prev a and b", "prev a and b"), ("next yes", "next yes"),
+            ("not next a", "not next a"), ("yes until b", None), ("a until b", None), ("not b since a", None),
+        ):
+            told = write_tense("ab", tense_of(derive_tense("ab", read_tense("ab", text))[-1]))
+            if wanted is None:
+                self.assertLessEqual(len(told), 3 * len(text), told)
+            else:
+                self.assertEqual(told, wanted)
+
+    def test_sizes(self):
+        source = chance(439)
+        for alphabet, tense, sets in (("ab", 100, 60), ("abc", 250, 180)):
+            for _ in range(3):
+                pair = Pair(*awkward_parts(source, alphabet, 3, 3))
+                self.assertLess(len(tense_of(pair)), tense)
+                sheet, cuts = cuts_of(pair)
+                self.assertLess(len(sheet), sets)
+                needed = {number for i, a, j in cuts for number in (i, j)}
+                for number in range(len(sheet) - 1, -1, -1):
+                    self.assertIn(number, needed)
+                    needed |= {thing for thing in sheet[number] if isinstance(thing, int)}
+                readers = derive_sets(alphabet, sheet)
+                self.assertEqual(len({(x.moves, x.accepted) for x in readers}), len(readers))
 
 
 class CutsOf(unittest.TestCase):

@@ -2,6 +2,7 @@
 
 import copy
 import unittest
+from unittest import mock
 
 from saidhere.errors import TooMany, Unsayable
 from saidhere.leastpair import least
@@ -11,7 +12,7 @@ from saidhere.splitting import Split, judge_split, split_of
 from saidhere.tense import comings, pasts, tense_sheet
 from saidhere.tensein import derive_tense
 from saidhere.tensejudge import first_wrong_tense
-from saidhere.turnings import turning
+from saidhere.turnings import is_steady, turning
 from tests.plainly import TENSE_FORMS, as_lists, chance, counter, is_tuples, led, pair_marks, random_pair_parts, random_sheet, rows
 from tests.plainly import steady_pair_parts, tense_holds
 from tests.test_turnings import EVEN, FIRST, ring_pair
@@ -157,6 +158,43 @@ class SplitOf(unittest.TestCase):
         with self.assertRaises(Unsayable):
             split_of(pair=both)
 
+    def test_too_many_parts(self):
+        # The reader has 298 maps, none of which turns.
+        many = ((1, 1, 1), (2, 2, 2), (2, 2, 3), (2, 3, 5), (3, 4, 5), (4, 4, 6), (6, 5, 7), (7, 7, 7))
+        pair = Pair("abc", many, ((0, 0, 0),), tuple((p, "abc"[p % 3], 0) for p in range(8)))
+        self.assertTrue(is_steady(pair))
+        for one in (pair, mirrored(pair)):
+            with self.assertRaises(TooMany) as held:
+                split_of(one)
+            self.assertEqual(held.exception.word, "part")
+
+    def test_the_number_of_parts(self):
+        pair = Pair(*awkward_parts(chance(426), "ab", 3, 3))
+        many = len(split_of(pair).sheet)
+        with mock.patch("saidhere.splitting.MOST_PARTS", many):
+            self.assertEqual(len(split_of(pair).sheet), many)
+        with mock.patch("saidhere.splitting.MOST_PARTS", many - 1):
+            with self.assertRaises(TooMany) as held:
+                split_of(pair)
+        self.assertEqual(held.exception.word, "part")
+
+    def test_splits_are_short(self):
+        # How short they are is not promised; but no part is there that none needs.
+        source = chance(427)
+        for alphabet in ("ab", "abc"):
+            for _ in range(3):
+                split = split_of(Pair(*awkward_parts(source, alphabet, 3, 3)))
+                self.assertLess(len(split.sheet), {"ab": 90, "abc": 250}[alphabet])
+                needed = {number for i, a, j in split for number in (i, j)}
+                for number in range(len(split.sheet) - 1, -1, -1):
+                    self.assertIn(number, needed)
+                    needed |= {thing for thing in split.sheet[number] if isinstance(thing, int)}
+                # Letters may be told in two ways, on both sides.
+                pairs = derive_tense(alphabet, split.sheet)
+                self.assertLess(len(pairs) - len({(x.left, x.right, x.marked) for x in pairs}), 4)
+        chain = tuple((min(k + 1, 19),) for k in range(20))
+        self.assertLess(len(split_of(Pair("a", chain, ((0,),), ((19, "a", 0),))).sheet), 60)
+
     def test_splits_are_iterated_over(self):
         split = split_of(FIRST)
         self.assertEqual([(x, y) for x in split for y in split], [(x, y) for x in split.pieces for y in split.pieces])
@@ -250,11 +288,14 @@ class JudgeSplit(unittest.TestCase):
             self.assertIs(judge_split(pair, sheet, ((0, "a", 0),)), False)
             self.assertIs(judge_split(NO_MARK, sheet, ()), False)
         for pieces in (
-            None, 0, "a", {}, (None,), ("0a0",), ((0, "a"),), ((0, "a", 0, 0),), ((2, "a", 0),), ((0, "a", 2),), ((-1, "a", 0),), ((0, "c", 0),),
+            None, 0, "a", {}, (None,), ("0a0",), ((0, ("a",), 0),), ((0, None, 0),), ((0, "h", 0),), ((0, "a"),), ((0, "a", 0, 0),), ((2, "a", 0),), ((0, "a", 2),), ((-1, "a", 0),), ((0, "c", 0),),
             ((0, "", 0),), ((0, "ab", 0),), ((True, "a", 0),), ((0, "a", False),), ((0, 0, 0),), (("a", 0, 0),), ((0, "a", 0), None),
             ((0, "a", 0), ()), {(0, "a", 0): 1}, EVEN,
         ):
             self.assertIs(judge_split(pair, good, pieces), False, pieces)
+            if isinstance(pieces, tuple):
+                # Beside what would be right.
+                self.assertIs(judge_split(pair, good, ((0, "a", 0),) + pieces), False, pieces)
 
     def test_nothing_is_changed(self):
         split = split_of(FIRST)
