@@ -277,7 +277,6 @@ class NamedFromTense(unittest.TestCase):
         told = named_from_tense("a", sheet)
         self.assertEqual(free_names("a", told)[-1], "x")
         self.assertLessEqual(len(told), 6000)
-        # Of long rows, by definition of two of them.
         with self.assertRaises(TooMany) as held:
             named_from_tense("a", chain("next", 100))
         self.assertEqual(held.exception.word, "part")

@@ -1,6 +1,7 @@
 """Splits of steady marks, and how they are judged ([23] with [15], [16])."""
 
 import copy
+import itertools
 import unittest
 from unittest import mock
 
@@ -13,7 +14,7 @@ from saidhere.tense import comings, pasts, tense_sheet
 from saidhere.tensein import derive_tense
 from saidhere.tensejudge import first_wrong_tense
 from saidhere.turnings import is_steady, turning
-from tests.plainly import TENSE_FORMS, as_lists, chance, counter, is_tuples, led, pair_marks, random_pair_parts, random_sheet, rows
+from tests.plainly import TENSE_FORMS, as_lists, chance, counter, is_tuples, led, map_turns, maps_of_moves, pair_marks, random_pair_parts, random_sheet, rows
 from tests.plainly import steady_pair_parts, tense_holds
 from tests.test_turnings import EVEN, FIRST, ring_pair
 
@@ -91,6 +92,23 @@ class SplitOf(unittest.TestCase):
                 for right in (1, 2, 3):
                     for _ in range(2):
                         self.check(Pair(*steady_pair_parts(source, alphabet, left, right)), most)
+
+    def test_all_readers_of_three_standings(self):
+        many = 0
+        for moves in itertools.product(itertools.product(range(3), repeat=2), repeat=3):
+            if any(map_turns(item) for item in maps_of_moves(moves)):
+                continue
+            left = Pair("ab", moves, ONE, tuple((p, "ab"[p % 2], 0) for p in range(3)))
+            if len(least(left).left) < 3:
+                continue
+            many += 1
+            for pair in (left, mirrored(left)):
+                small = least(pair)
+                split = split_of(pair)
+                self.assertEqual([a for i, a, j in split], [a for p, a in sorted({(p, a) for p, a, q in small.marked})])
+                self.assertIs(judge_split(pair, split.sheet, split.pieces), True)
+                self.assertTrue(plainly_right(pair, split.sheet, split.pieces, 4))
+        self.assertGreater(many, 60)
 
     def test_by_derivations(self):
         source = chance(421)
