@@ -21,7 +21,7 @@ class PastStands:
     """Stands of a tense part, all of whose parts look in one direction, as rows up to a place lead to them.
 
     A stand has the standings of the machines of the parts it refers to, and for `prev` and `since` (`next`
-    and `until` in mirrored rows) whether it holds at the place.
+    and `until` in mirrored rows) whether it holds at the place. What denies a part needs no stands.
     """
 
     def __init__(self, letters, word, machines):
@@ -50,8 +50,6 @@ class PastStands:
         if self.word in NEAR or self.word in FAR:
             return stand[-1]
         held = self.held(stand)
-        if self.word == "not":
-            return not held[0]
         return held[0] and held[1] if self.word == "and" else held[0] or held[1]
 
 
@@ -118,37 +116,62 @@ def only_needed(parts, wanted):
     return kept, [numbers[number] for number in wanted]
 
 
-def denied_key(key):
-    """The meaning of what denies a part with this meaning."""
-    return key[0], tuple([DENIED[colour] for colour in key[1]])
+def denied_machine(machine):
+    """The machine of what denies a part with this machine."""
+    return machine[0], tuple([DENIED[colour] for colour in machine[1]])
 
 
 def plainer(part):
-    """The part, told by a word that looks at the place directly beside if it says just that."""
+    """The part in the plainest of the forms that say the same by themselves."""
     if part[0] in FAR and part[1] == part[2]:
         return NEAR[FAR.index(part[0])], part[1]
+    if part[0] in ("and", "or"):
+        return part[0], min(part[1:]), max(part[1:])
     return part
+
+
+class Together:
+    """Parts that are put together: those kept, their machines, and the numbers by their meanings and their forms."""
+
+    def __init__(self, meanings):
+        self.meanings = meanings
+        self.kept = []
+        self.machines = []
+        self.known = {}
+        self.forms = {}
+
+    def number_of(self, part):
+        """The number of a part that refers to those kept."""
+        form = plainer(part)
+        if form not in self.forms:
+            self.forms[form] = self.number_of_meaning(form)
+        return self.forms[form]
+
+    def meaning_of(self, part, ahead):
+        """The machine of a part, from those of the parts it refers to."""
+        return denied_machine(ahead[0]) if part[0] == "not" else self.meanings.meaning(part, ahead)
+
+    def number_of_meaning(self, part):
+        """The number of a part whose form is new."""
+        ahead = [self.machines[other] for other in referred(part)]
+        unknown = any([machine is None for machine in ahead])
+        machine = None if unknown else self.meaning_of(part, ahead)
+        key = part if machine is None else (tuple(machine[0]), tuple(machine[1]))
+        if key not in self.known:
+            denied = None if machine is None else self.known.get(denied_machine(key))
+            self.known[key] = len(self.kept)
+            self.kept.append(part if denied is None else ("not", denied))
+            self.machines.append(machine)
+        return self.known[key]
 
 
 def put_together(parts, wanted, meanings):
     """The parts wanted and those that they need, each meaning once, with their meanings, and their numbers there."""
-    kept = []
-    machines = []
-    known = {}
+    together = Together(meanings)
     numbers = {}
     for number in needed(parts, wanted):
-        part = plainer(renumbered(parts[number], numbers))
-        ahead = [machines[other] for other in referred(part)]
-        unknown = any([machine is None for machine in ahead])
-        machine = None if unknown else meanings.meaning(part, ahead)
-        key = part if machine is None else (tuple(machine[0]), tuple(machine[1]))
-        if key not in known:
-            denied = None if machine is None else known.get(denied_key(key))
-            known[key] = len(kept)
-            kept.append(part if denied is None else ("not", denied))
-            machines.append(machine)
-        numbers[number] = known[key]
-    return kept, machines, numbers
+        numbers[number] = together.number_of(renumbered(parts[number], numbers))
+    return together.kept, together.machines, numbers
 
 
 def shortened(parts, wanted, meanings):
