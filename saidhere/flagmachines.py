@@ -126,7 +126,8 @@ def standings_met(moves):
     met = {0: True}
     at = 0
     while at < len(found):
-        for follower in moves[found[at]]:
+        move = moves[found[at]]
+        for follower in move:
             if follower not in met:
                 met[follower] = True
                 found.append(follower)

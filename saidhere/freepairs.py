@@ -17,7 +17,8 @@ def follow_up(plain, begins):
     found = {standing: True for standing in begins}
     waiting = list(found)
     while waiting:
-        for follower in plain[waiting.pop()]:
+        move = plain[waiting.pop()]
+        for follower in move:
             if follower not in found:
                 found[follower] = True
                 waiting.append(follower)

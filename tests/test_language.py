@@ -313,7 +313,10 @@ def walked_and_changed(function):
     """The lines at which a function may change what a loop walks, under whatever name."""
     same = several_names(function)
     for walked, body in loops(function):
-        names = set()
+        # Also what is named in the head of a loop only to find what is walked.
+        names = set() if called_by_name(walked, ("list", "sorted")) else {
+            node.id for node in ast.walk(walked) if isinstance(node, ast.Name)
+        }
         for name in held_by(walked):
             names |= same.get(name, {name})
         if names & set(changed_names(body)):
