@@ -178,9 +178,9 @@ def read_book(lines):
 
 
 def pieces_ahead(lines):
-    """The pieces of the lines ahead of the first one that is bad."""
+    """The pieces of the lines ahead of the first one that is bad; none if they are no lines at all."""
     pieces = []
-    for line in lines:
+    for line in lines if is_listing(lines) else ():
         try:
             piece = next_piece(pieces, line)
         except BadLine:

@@ -409,6 +409,8 @@ class TakenUp(unittest.TestCase):
     def test_none(self):
         for lines in ((), ("",), ("book",), ("book ba", "cuts c"), (None,), ("cuts c", "book ab"), (" book ab",)):
             self.assertIsNone(taken_up(lines))
+        for thing in (None, 0, True, "book ab", {}, {"book ab": 1}, 1.5, Book("ab", ())):
+            self.assertIsNone(taken_up(thing))
         with self.assertRaises(BadAlphabet):
             Book("ba", ())
 
