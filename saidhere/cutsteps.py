@@ -13,7 +13,7 @@ class CutStands:
 
     def __init__(self, alphabet, readers, cuts):
         self.alphabet = alphabet
-        self.letters = 2 * len(alphabet)
+        self.width = 2 * len(alphabet)
         self.readers = readers
         self.cuts = cuts
         self.asked = sorted(set([i for i, letter, j in cuts]))
@@ -29,7 +29,7 @@ class CutStands:
         wanted = [j for i, other, j in self.cuts if other == self.alphabet[letter] and i in taken]
         return tuple([(j, 0) for j in sorted(set(wanted))])
 
-    def after(self, stand, number):
+    def followed(self, stand, number):
         """The stand to which a letter, with x or without it, leads."""
         letter = number >> 1
         if number & 1:

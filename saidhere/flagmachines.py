@@ -51,10 +51,10 @@ class Single:
         self.alphabet = alphabet
         self.names = names
         self.part = part
-        self.letters = flagged_letters(alphabet, names)
+        self.width = flagged_letters(alphabet, names)
         self.begin = -1 if part[0] == "no" else 0
 
-    def after(self, stand, number):
+    def followed(self, stand, number):
         """The stand to which a flagged letter leads."""
         return -1 if stand == -1 else single_seen(self.alphabet, self.names, self.part, stand, number)
 
@@ -73,13 +73,13 @@ class Joined:
     def __init__(self, alphabet, names, word, sides):
         self.names = names
         self.word = word
-        self.letters = flagged_letters(alphabet, names)
+        self.width = flagged_letters(alphabet, names)
         self.moves = [machine[0] for inner, machine in sides]
         self.accepted = [machine[1] for inner, machine in sides]
         self.numbers = [narrowed(alphabet, names, inner, "") for inner, machine in sides]
         self.begin = (0, False) + tuple([0 for _ in sides])
 
-    def after(self, stand, number):
+    def followed(self, stand, number):
         """The stand to which a flagged letter leads."""
         seen = -1 if stand == DEAD else seen_after(self.names, stand[0], number)
         if seen == -1:
@@ -109,8 +109,8 @@ def explored(kind):
     at = 0
     while at < len(stands):
         move = []
-        for number in range(kind.letters):
-            follower = kind.after(stands[at], number)
+        for number in range(kind.width):
+            follower = kind.followed(stands[at], number)
             if follower not in numbers:
                 numbers[follower] = len(stands)
                 stands.append(follower)

@@ -40,17 +40,17 @@ class FlagSteps:
     def __init__(self, alphabet):
         self.alphabet = alphabet
         self.readers = []
-        self.known = {}
+        self.listed_at = {}
         self.met = {}
         self.steps = {}
 
     def number_of(self, reader):
         """The number of a least reader."""
         key = (reader.names, reader.moves, reader.accepted)
-        if key not in self.known:
-            self.known[key] = len(self.readers)
+        if key not in self.listed_at:
+            self.listed_at[key] = len(self.readers)
             self.readers.append(reader)
-        return self.known[key]
+        return self.listed_at[key]
 
     def number_of_any(self, reader):
         """The number of the least reader that accepts what a reader accepts."""

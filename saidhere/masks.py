@@ -11,6 +11,30 @@ def lowest(mask):
     return (mask & -mask).bit_length() - 1
 
 
+def bits_of(mask):
+    """The numbers of the bits of a mask, ascending."""
+    found = []
+    rest = mask
+    while rest:
+        low = rest & -rest
+        found.append(low.bit_length() - 1)
+        rest = rest ^ low
+    return found
+
+
+def number_of_bits(mask):
+    """How many bits a mask has."""
+    return f"{mask:b}".count("1")
+
+
+def mask_with(numbers):
+    """The mask that has the bits with these numbers."""
+    mask = 0
+    for number in numbers:
+        mask = mask | (1 << number)
+    return mask
+
+
 def mask_of(bits):
     """The mask of a list of True and False, the first one being for the bit 0."""
     mask = 0
@@ -26,6 +50,14 @@ def united(mask, pictures):
     for number, picture in pictures.items():
         if has_bit(mask, number):
             whole = whole | picture
+    return whole
+
+
+def united_bits(mask, pictures):
+    """The pictures of the bits of a mask, put together; each bit has one."""
+    whole = 0
+    for number in bits_of(mask):
+        whole = whole | pictures[number]
     return whole
 
 

@@ -42,6 +42,11 @@ def is_row(alphabet, thing):
     return wrong_at(alphabet, thing) is None
 
 
+def is_long_row(alphabet, thing):
+    """Whether the thing is a row over the alphabet, however long."""
+    return isinstance(thing, str) and thing.strip(alphabet) == ""
+
+
 def check_row(alphabet, thing):
     """Raise BadRow unless the thing is a row over the alphabet, of at most 200 letters."""
     at = wrong_at(alphabet, thing)

@@ -43,6 +43,22 @@ def standings_behind(alphabet, right, row):
     return standings_ahead(alphabet, right, row[::-1])[::-1]
 
 
+def feeding(reader, letter):
+    """For each standing, the mask of those from which the letter with this number leads to it."""
+    found = [0 for _ in reader]
+    for standing, move in enumerate(reader):
+        found[move[letter]] = found[move[letter]] | (1 << standing)
+    return found
+
+
+def led_standings(reader, numbers):
+    """The standings through which the letters with these numbers lead a reader, from the standing 0 on."""
+    told = [0]
+    for number in numbers:
+        told.append(reader[told[-1]][number])
+    return told
+
+
 def item_after(readers, item, letter):
     """The item to which the letter with this number leads from an item."""
     return tuple([reader[standing][letter] for reader, standing in zip(readers, item)])

@@ -5,6 +5,7 @@ from saidhere.kinds import is_below, is_listing
 from saidhere.plain import is_letter
 
 MOST_PARTS = 6000
+MOST_MARKS = 3
 NAMES = "uvwxyz"
 
 
@@ -14,6 +15,8 @@ def fits(alphabet, kind, number, thing):
         return is_below(thing, number)
     if kind == "letter":
         return is_letter(alphabet, thing)
+    if kind == "mark":
+        return is_below(thing, MOST_MARKS)
     return is_letter(NAMES, thing)
 
 

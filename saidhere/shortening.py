@@ -25,7 +25,7 @@ class PastStands:
     """
 
     def __init__(self, letters, word, machines):
-        self.letters = letters
+        self.width = letters
         self.word = word
         self.moves = [machine[0] for machine in machines]
         self.colours = [machine[1] for machine in machines]
@@ -35,7 +35,7 @@ class PastStands:
         """For each part it refers to, whether that holds; at no place at all none does."""
         return [colours[standing] == 1 for colours, standing in zip(self.colours, stand)]
 
-    def after(self, stand, number):
+    def followed(self, stand, number):
         """The stand to which a letter leads."""
         held = self.held(stand)
         holds = False
@@ -137,7 +137,7 @@ class Together:
         self.meanings = meanings
         self.kept = []
         self.machines = []
-        self.known = {}
+        self.listed_at = {}
         self.forms = {}
 
     def number_of(self, part):
@@ -157,12 +157,12 @@ class Together:
         unknown = any([machine is None for machine in ahead])
         machine = None if unknown else self.meaning_of(part, ahead)
         key = part if machine is None else (tuple(machine[0]), tuple(machine[1]))
-        if key not in self.known:
-            denied = None if machine is None else self.known.get(denied_machine(key))
-            self.known[key] = len(self.kept)
+        if key not in self.listed_at:
+            denied = None if machine is None else self.listed_at.get(denied_machine(key))
+            self.listed_at[key] = len(self.kept)
             self.kept.append(part if denied is None else ("not", denied))
             self.machines.append(machine)
-        return self.known[key]
+        return self.listed_at[key]
 
 
 def put_together(parts, wanted, meanings):

@@ -54,7 +54,7 @@ class Subsets:
         self.steps = steps
         self.goal = goal
         self.most = most
-        self.letters = len(steps[0])
+        self.width = len(steps[0])
         self.tests, self.exact = tests_of(steps, goal)
         self.alive = alive_of(steps, goal)
         self.signs = {}
@@ -69,7 +69,7 @@ class Subsets:
             check_most(len(self.signs), self.most)
         return self.signs[sign] if self.exact else live
 
-    def after(self, stand, number):
+    def followed(self, stand, number):
         """The stand to which a letter leads."""
         states = 0
         for standing, followers in enumerate(self.steps):

@@ -64,7 +64,7 @@ class Promises:
         self.moves = moves
         self.ways = columns_of(first[2], [p for p, o in ahead], len(first[1]))
         self.aims = columns_of(second[2], [o for p, o in ahead], len(second[1]))
-        self.live = reached_at_once(moves)
+        self.reached = reached_at_once(moves)
         self.masks = []
         self.numbers = {}
         self.pulled = []
@@ -80,10 +80,10 @@ class Promises:
             self.pulled.append([mask_of([has_bit(mask, after) for after in column]) for column in columns])
         return self.numbers[mask]
 
-    def after(self, stand, letter):
+    def followed(self, stand, letter):
         """The right standings and the promise that a letter leads to, put ahead of a row behind."""
         way = self.ways[letter][stand[0]] & self.pulled[stand[2]][letter]
-        promise = (self.aims[letter][stand[1]] | way) & self.live
+        promise = (self.aims[letter][stand[1]] | way) & self.reached
         return item_after(self.rights, stand[:2], letter) + (self.note(promise),)
 
     def walked(self):
@@ -95,7 +95,7 @@ class Promises:
         while at < len(found):
             move = []
             for letter in range(len(self.moves[0])):
-                follower = self.after(found[at], letter)
+                follower = self.followed(found[at], letter)
                 if follower not in numbers:
                     numbers[follower] = len(found)
                     found.append(follower)
@@ -134,6 +134,11 @@ def machine_of_step(alphabet, word, machines):
     return mirrored_masks(machine[0], machine[1], machine[2])
 
 
+def marked_letters(alphabet, number):
+    """The letters that stand for places that the mark of a rule with this number marks."""
+    return "".join([letter for at, letter in enumerate(alphabet) if has_bit(at, number)])
+
+
 def step_pair(alphabet, part, pairs):
     """The least pair of a part, from those of the parts that it refers to, in their order."""
     word = part[0]
@@ -143,6 +148,8 @@ def step_pair(alphabet, part, pairs):
         return Pair.of_letters(alphabet, "")
     if word == "letter":
         return Pair.of_letters(alphabet, part[1])
+    if word == "mark":
+        return Pair.of_letters(alphabet, marked_letters(alphabet, part[1]))
     if word == "not":
         return ~pairs[0]
     if word == "and":
@@ -153,25 +160,54 @@ def step_pair(alphabet, part, pairs):
     return least_pair(alphabet, left, right, table)
 
 
-def derive_tense(alphabet, sheet):
-    """The least pair of each part, in their order.
+class Derivation:
+    """The different marks of parts, numbered, as least pairs.
 
-    Many parts of a long sheet may have one mark: the different pairs are numbered, and what is made of
-    them is made once.
+    Many parts of a long sheet may have one mark: what is made of marks is made once.
     """
+
+    def __init__(self, alphabet):
+        self.alphabet = alphabet
+        self.pairs = []
+        self.listed_at = {}
+        self.made_of = {}
+
+    def listed_number(self, pair):
+        """The number of the mark of a least pair."""
+        key = (pair.left, pair.right, pair.marked)
+        if key not in self.listed_at:
+            self.listed_at[key] = len(self.pairs)
+            self.pairs.append(pair)
+        return self.listed_at[key]
+
+    def number_of_step(self, step):
+        """The number of the mark of a part that refers to marks by their numbers."""
+        if step not in self.made_of:
+            pair = step_pair(self.alphabet, step, [self.pairs[number] for number in step_numbers(step)])
+            self.made_of[step] = self.listed_number(pair)
+        return self.made_of[step]
+
+    def numbers_of(self, kept):
+        """The number of the mark of each part of a sheet."""
+        numbers = []
+        for part in kept:
+            numbers.append(self.number_of_step(renumbered_part(part, numbers)))
+        return numbers
+
+
+def step_numbers(step):
+    """The numbers that a part of a sheet or of a rule sheet refers to; `mark` bears one that is none of a part."""
+    return [] if step[0] == "mark" else referred(step)
+
+
+def renumbered_part(part, numbers):
+    """The part with its references led to other numbers."""
+    return part if part[0] == "mark" else renumbered(part, numbers)
+
+
+def derive_tense(alphabet, sheet):
+    """The least pair of each part, in their order."""
     kept = tense_sheet(alphabet, sheet)
-    pairs = []
-    known = {}
-    steps = {}
-    numbers = []
-    for part in kept:
-        step = renumbered(part, numbers)
-        if step not in steps:
-            pair = step_pair(alphabet, part, [pairs[numbers[number]] for number in referred(part)])
-            key = (pair.left, pair.right, pair.marked)
-            if key not in known:
-                known[key] = len(pairs)
-                pairs.append(pair)
-            steps[step] = known[key]
-        numbers.append(steps[step])
-    return tuple([pairs[number] for number in numbers])
+    derivation = Derivation(alphabet)
+    numbers = derivation.numbers_of(kept)
+    return tuple([derivation.pairs[number] for number in numbers])

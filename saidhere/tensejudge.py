@@ -26,7 +26,7 @@ class Asked:
         self.ahead, _, self.onward = reached_ahead(alphabet, [pair.left for pair in pairs], None)
         behind, _, backward = reached_behind(alphabet, [pair.right for pair in pairs], None)
         self.whole = (1 << len(behind)) - 1
-        self.marks = [spread(pair.masks, [item[k] for item in behind]) for k, pair in enumerate(pairs)]
+        self.columns = [spread(pair.masks, [item[k] for item in behind]) for k, pair in enumerate(pairs)]
         self.later = []
         for letter in range(len(alphabet)):
             after = [behind[move[letter]][0] for move in backward]
@@ -38,10 +38,10 @@ def wanted_here(alphabet, part, asked, item):
     word = part[0]
     if word in ("yes", "no", "letter"):
         return [asked.whole if word == "yes" or letter in part[1:] else 0 for letter in alphabet]
-    first = asked.marks[1][item[1]]
+    first = asked.columns[1][item[1]]
     if word == "not":
         return [asked.whole ^ mask for mask in first]
-    second = asked.marks[2][item[2]]
+    second = asked.columns[2][item[2]]
     if word == "and":
         return [x & y for x, y in zip(first, second)]
     return [x | y for x, y in zip(first, second)]
@@ -61,7 +61,7 @@ def is_right_here(alphabet, part, pairs):
     """Whether a step that looks at one place is right."""
     asked = Asked(alphabet, pairs)
     return all([
-        list(asked.marks[0][item[0]]) == wanted_here(alphabet, part, asked, item) for item in asked.ahead
+        list(asked.columns[0][item[0]]) == wanted_here(alphabet, part, asked, item) for item in asked.ahead
     ])
 
 
@@ -70,10 +70,10 @@ def wanted_later(word, asked, item):
 
     The item is that behind the letter at the place.
     """
-    aims = asked.marks[-1][item[-1]]
+    aims = asked.columns[-1][item[-1]]
     if word == "next":
         return aims
-    return [aim | (way & whole) for aim, way, whole in zip(aims, asked.marks[1][item[1]], asked.marks[0][item[0]])]
+    return [aim | (way & whole) for aim, way, whole in zip(aims, asked.columns[1][item[1]], asked.columns[0][item[0]])]
 
 
 def is_right_later(alphabet, word, pairs):
@@ -108,7 +108,7 @@ class Judged:
     def __init__(self, alphabet):
         self.alphabet = alphabet
         self.pairs = []
-        self.known = {}
+        self.listed_at = {}
         self.met = {}
         self.steps = {}
 
@@ -118,10 +118,10 @@ class Judged:
         if key not in self.met:
             small = least(pair)
             found = (small.left, small.right, small.marked)
-            if found not in self.known:
-                self.known[found] = len(self.pairs)
+            if found not in self.listed_at:
+                self.listed_at[found] = len(self.pairs)
                 self.pairs.append(small)
-            self.met[key] = self.known[found]
+            self.met[key] = self.listed_at[found]
         return self.met[key]
 
     def is_right(self, part, number, numbers):

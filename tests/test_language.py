@@ -74,6 +74,24 @@ INTERFACE = {
     "namedout": "named_from_tense",
     "namedcuts": "named_from_cuts",
     "carrying": "carried",
+    "always": "always Always judge_always follows is_let",
+    "mosts": "most Most judge_ranks judge_pump",
+    "merging": "merged idle",
+    "rules": "sound Soundness rewritten",
+    "delays": "delay reach windows endless_later endless_back judge_later judge_back",
+    "spots": "Spot",
+    "ways": "ways_on ways_back",
+    "bearing": "bearing Bearing rows_behind",
+    "undoing": "blurred undone",
+    "missing": "onto Onto judge_onto",
+    "glasses": "seen_alphabet seen_row coarsest",
+    "through": "through Through sure perhaps",
+    "joints": "joint Joint",
+    "contests": "Contest judge_levels",
+    "lows": "first_comings low Low",
+    "census": "census shares fewest greatest",
+    "ranked": "row_at number_of",
+    "desks": "Desk",
 }
 
 
@@ -492,8 +510,39 @@ class TheLanguage(unittest.TestCase):
                     stored.add(node.name)
         for name, tree in self.each():
             for node in ast.walk(tree):
-                if isinstance(node, ast.Attribute):
+                if isinstance(node, ast.Attribute) and node.attr != "setter":
                     self.assertIn(node.attr, stored, (name, node.lineno))
+
+    def test_no_name_is_a_method_and_an_attribute(self):
+        stored, methods, told = set(), set(), set()
+        for _, tree in trees().items():
+            for node in ast.walk(tree):
+                if isinstance(node, ast.Attribute) and isinstance(node.ctx, ast.Store):
+                    stored.add(node.attr)
+                for one in node.body if isinstance(node, ast.ClassDef) else []:
+                    if isinstance(one, ast.FunctionDef):
+                        setter = any(isinstance(mark, ast.Attribute) for mark in one.decorator_list)
+                        (told if is_property(one) or setter else methods).add(one.name)
+        self.assertEqual(told & set("letters unsure known ended live mark_names log".split()), told)
+        self.assertEqual((stored & methods, stored & told, methods & told), (set(), set(), set()))
+
+    def test_reversed_takes_what_is_surely_a_list(self):
+        # A class of the package has items, so other things might be objects of it.
+        good = ("list", "tuple", "sorted", "range")
+        for name, tree in self.each():
+            for node in ast.walk(tree):
+                if called_by_name(node, ("reversed",)):
+                    self.assertTrue(called_by_name(node.args[0], good), (name, node.lineno))
+
+    def test_what_leaves_a_block(self):
+        # Only plain statements stand in what is done when a block is left.
+        for name, tree in self.each():
+            for node in ast.walk(tree):
+                if isinstance(node, ast.FunctionDef) and node.name == "__exit__":
+                    self.assertEqual([arg.arg for arg in node.args.args], ["self", "kind", "value", "trace"])
+                    for one in node.body:
+                        self.assertIsInstance(one, ast.Assign, (name, one.lineno))
+                        self.assertIsInstance(one.value, ast.Attribute, (name, one.lineno))
 
     def test_decorators(self):
         for name, tree in self.each():
@@ -579,7 +628,9 @@ class TheLanguage(unittest.TestCase):
     def test_no_state(self):
         for name, tree in self.each():
             for node in ast.walk(tree):
-                self.assertNotIsInstance(node, (ast.Global, ast.With), name)
+                self.assertNotIsInstance(node, ast.Global, name)
+                if isinstance(node, ast.With):
+                    self.assertEqual(name, "desks.py")
                 if isinstance(node, ast.FunctionDef):
                     for default in node.args.defaults + node.args.kw_defaults:
                         ast.literal_eval(default)
@@ -607,6 +658,17 @@ class TheLanguage(unittest.TestCase):
             ("turnings", "Turn"): "__init__ shown",
             ("flags", "Reader"): "__init__ __call__ __eq__ __len__",
             ("splitting", "Split"): "__init__ __iter__ __len__",
+            ("always", "Always"): "__init__ __bool__",
+            ("mosts", "Most"): "__init__ __bool__",
+            ("rules", "Soundness"): "__init__ __bool__",
+            ("spots", "Spot"): "__init__ read end copy letters unsure known ended",
+            ("missing", "Onto"): "__init__ __bool__",
+            ("through", "Through"): "__init__ __bool__",
+            ("joints", "Joint"): "__init__ __bool__",
+            ("contests", "Contest"): "__init__ parting_height parting_sheet",
+            ("desks", "Desk"): (
+                "__init__ live mark_names log put take change become undo redo marks trial put_on take_off copy tried"
+            ),
         }
         for (file, name), words in methods.items():
             tree = ast.parse(source(file + ".py"))
