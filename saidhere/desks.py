@@ -82,29 +82,20 @@ def places_kept(deed, length):
     return [(place, place) for place in range(length)] if word == "change" else []
 
 
-class Held:
-    """What a trial goes back to: the state of a desk, and what an outer block of the same trial holds."""
-
-    def __init__(self, state, outer):
-        self.state = state
-        self.outer = outer
-
-
 class Trial:
-    """A block behind which a desk is what it was."""
+    """A block behind which a desk is what it was when the block was entered."""
 
     def __init__(self, desk):
         self.desk = desk
-        self.entered = None
+        self.kept = desk.state
 
     def __enter__(self):
-        self.entered = Held(self.desk.state, self.entered)
+        self.kept = self.desk.state
         return self
 
     def __exit__(self, kind, value, trace):
         desk = self.desk
-        desk.state = self.entered.state
-        self.entered = self.entered.outer
+        desk.state = self.kept
 
 
 class Desk:
@@ -123,8 +114,8 @@ class Desk:
         return self.state[0]
 
     @live.setter
-    def live(self, row):
-        self.become(row)
+    def live(self, value):
+        self.become(value)
 
     @property
     def mark_names(self):

@@ -21,10 +21,10 @@ class Field:
         self.alphabet = alphabet
         self.lefts = (wish[0], claim[0])
         self.rights = (wish[1], claim[1])
-        self.items = [(q, s) for q in range(len(wish[1])) for s in range(len(claim[1]))]
+        self.right_items = [(q, s) for q in range(len(wish[1])) for s in range(len(claim[1]))]
         self.fed = [(feeding(wish[1], letter), feeding(claim[1], letter)) for letter in range(len(alphabet))]
-        self.wished = spread(wish[2], [q for q, s in self.items])
-        self.claimed = spread(claim[2], [s for q, s in self.items])
+        self.wished = spread(wish[2], [q for q, s in self.right_items])
+        self.claimed = spread(claim[2], [s for q, s in self.right_items])
 
     def number_at(self, item):
         """The number of a right item."""
@@ -112,7 +112,7 @@ def listed(field, found):
     """Some gaps as an ascending list of tuples."""
     told = []
     for item, mask in found.items():
-        told.extend([item + field.items[number] for number in bits_of(mask)])
+        told.extend([item + field.right_items[number] for number in bits_of(mask)])
     return sorted(told)
 
 
@@ -151,7 +151,7 @@ def strides(field, counting):
             there = field.stridden(item, mask, letter) & counting.get(after, 0)
             marks = field.claimed[item[1]][letter]
             for number in bits_of(there):
-                steps.append((letter, numbers[after + field.items[number]], has_bit(marks, number)))
+                steps.append((letter, numbers[after + field.right_items[number]], has_bit(marks, number)))
         told.append(steps)
     return gaps, told
 

@@ -100,7 +100,7 @@ def sheet_of(rough, seen):
     for standing, head in rough.heads:
         masks = [rough.ends(standing, letter, True) for letter in letters]
         marks[head] = [[has_bit(mask, tails[f]) for f in range(len(seen))] for mask in masks]
-    ahead = [tuple([tuple(row) for row in marks[g]]) for g in range(len(seen))]
+    ahead = [tuple([tuple(some) for some in marks[g]]) for g in range(len(seen))]
     behind = [tuple([marks[g][k][f] for g in range(len(seen)) for k in letters]) for f in range(len(seen))]
     formulas = Comings(rough.small.alphabet)
     heads = grouped(formulas, "since", seen, numbered(ahead))

@@ -379,9 +379,6 @@ class Trials(unittest.TestCase):
         trial = desk.trial()
         with trial:
             desk.become("a")
-            with trial:
-                desk.become("bbbb")
-            self.assertEqual(desk.live, "a")
         self.assertEqual(all_of(desk), before)
         desk.become("bb")
         # What counts is when the block is entered.

@@ -526,6 +526,21 @@ class TheLanguage(unittest.TestCase):
         self.assertEqual(told & set("letters unsure known ended live mark_names log".split()), told)
         self.assertEqual((stored & methods, stored & told, methods & told), (set(), set(), set()))
 
+    def test_names_of_attributes(self):
+        barred = set(
+            "items keys values pop update append clear extend insert remove reverse setdefault sort args encode decode"
+            " hex fromhex format as_integer_ratio bit_count conjugate from_bytes is_integer to_bytes mro register".split()
+        )
+        allowed = set("count index title find get join lower upper split strip copy add".split())
+        others = {name for kind in (str, int, list, dict, set, bytes, tuple) for name in dir(kind)} - allowed
+        for name, tree in self.each():
+            for node in ast.walk(tree):
+                if isinstance(node, ast.Attribute) and isinstance(node.ctx, ast.Store):
+                    self.assertNotIn(node.attr, barred | others, (name, node.lineno))
+                for one in node.body if isinstance(node, ast.ClassDef) else []:
+                    if isinstance(one, ast.FunctionDef) and not one.name.startswith("__"):
+                        self.assertNotIn(one.name, others - METHODS, (name, one.lineno))
+
     def test_reversed_takes_what_is_surely_a_list(self):
         # A class of the package has items, so other things might be objects of it.
         good = ("list", "tuple", "sorted", "range")
