@@ -141,9 +141,12 @@ class Parting:
                 if not is_answered(level, places, others, at):
                     return self.parted_far(later, level, places[:at + 1], others)
             swapped = turned_around(level)
-            for at in range(len(others)):
+            for at, there in enumerate(others):
                 if not is_answered(swapped, others, places, at):
-                    return self.formulas.negated(self.parted_far_back(later, swapped, others[:at + 1], places))
+                    # All moves in the row have answers, so the nearest place in the level with this one, if there
+                    # were any, would be an answer: the places on the way to it have answers on the way here.
+                    goals = [self.parted_back(there, here) for here in places]
+                    return self.formulas.negated(self.made_far(later, [], goals))
         return None
 
     def parted_far(self, later, level, passed, others):
@@ -152,14 +155,6 @@ class Parting:
         told = []
         for stray in needed_strays(level, passed, others):
             told.append(self.formulas.any_of([self.parted(here, stray) for here in passed[:-1]]))
-        return self.made_far(later, told, goals)
-
-    def parted_far_back(self, later, swapped, passed, places):
-        """The same with the two rows exchanged."""
-        goals = [self.parted_back(passed[-1], here) for here in places if (passed[-1], here) not in swapped]
-        told = []
-        for stray in needed_strays(swapped, passed, places):
-            told.append(self.formulas.any_of([self.parted_back(there, stray) for there in passed[:-1]]))
         return self.made_far(later, told, goals)
 
     def made_far(self, later, told, goals):

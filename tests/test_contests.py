@@ -166,6 +166,20 @@ class Parting(unittest.TestCase):
                     self.assertFalse(tense_marks(alphabet, sheet, other)[m])
         self.assertLessEqual({None, 0, 1, 2, 3, 4, 5}, met)
 
+    def test_all_short_rows(self):
+        short = rows("ab", 4)
+        for row in short:
+            for other in short + ["abbab", "babba"]:
+                contest = Contest("ab", row, other)
+                for k in range(len(row)):
+                    for m in range(len(other)):
+                        sheet = contest.parting_sheet(k, m)
+                        self.assertEqual(sheet is None, contest.parting_height(k, m) is None)
+                        if sheet is not None:
+                            self.assertTrue(tense_marks("ab", sheet, row)[k])
+                            self.assertFalse(tense_marks("ab", sheet, other)[m])
+                            self.assertEqual(heights("ab", sheet)[-1], contest.parting_height(k, m))
+
     def test_places(self):
         contest = Contest("ab", "ab", "aba")
         for wrong in (-1, 3, True, None, "0", (0,), 10 ** 50):

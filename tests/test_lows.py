@@ -127,6 +127,8 @@ class Lows(unittest.TestCase):
             (told("ab", "not next yes"), 1, ("a", 0, "aa", 0)),
             (told("ab", "next next a"), 2, ("aaa", 0, "aa", 0)), (even, 2, ("aaa", 2, "aa", 1)),
             (told("ab", "next (a and next b)"), 2, ("aab", 0, "aaab", 0)),
+            # Both places of the least marked row are marked: the first one is told.
+            (told("ab", "b and next a or a and prev b"), 1, ("ba", 0, "b", 0)),
         ):
             self.assertEqual(self.check(pair, 5), height)
             self.assertEqual(low(pair).unlike, unlike)
