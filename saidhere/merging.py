@@ -16,43 +16,69 @@ def merged(alphabet, sheet):
     return tidied([renumbered(part, firsts) for part in kept], firsts[-1])
 
 
-def references(kept):
-    """For each part, the later parts that refer to it, ascending."""
-    found = [[] for _ in kept]
+def last_uses(kept):
+    """For each part, the last part that refers to it; its own number if none does."""
+    found = list(range(len(kept)))
     for number, part in enumerate(kept):
-        for other in sorted(set(referred(part))):
-            found[other].append(number)
+        for other in referred(part):
+            found[other] = number
     return found
 
 
-def last_with(derivation, kept, numbers, waiting, at, part):
-    """The number of the mark of the sheet if a part of it is replaced.
+class Replacing:
+    """The mark that a sheet comes to have if one of its parts gets another one; marks are told by their numbers.
 
-    Numbers has those of the sheet as it is: only what refers to parts whose mark changes is told anew.
-    Waiting has the later parts that refer to each part.
+    If a part is all that has changed among what later parts refer to, what the sheet comes to have hangs on this
+    part and its mark alone: that is told once for each mark of it.
     """
-    changed = {at: derivation.number_of_step(part)}
-    touched = {after: True for after in waiting[at]} if changed[at] != numbers[at] else {}
-    for number in range(at + 1, len(kept)):
-        if number in touched:
-            told = {other: changed.get(other, numbers[other]) for other in referred(kept[number])}
-            changed[number] = derivation.number_of_step(renumbered(kept[number], told))
-            if changed[number] != numbers[number]:
-                for after in waiting[number]:
-                    touched[after] = True
-    return changed.get(len(kept) - 1, numbers[-1])
+
+    def __init__(self, alphabet, kept):
+        self.kept = kept
+        self.derivation = Derivation(alphabet)
+        self.numbers = self.derivation.numbers_of(kept)
+        self.uses = last_uses(kept)
+        self.lasts = {}
+
+    def told_anew(self, at, changed):
+        """The number of the mark of a part, if parts that it refers to have changed; None if none has."""
+        part = self.kept[at]
+        if not any([other in changed for other in referred(part)]):
+            return None
+        told = {other: changed.get(other, self.numbers[other]) for other in referred(part)}
+        return self.derivation.number_of_step(renumbered(part, told))
+
+    def last_with(self, at, number):
+        """The number of the mark of the sheet if the part has the mark with this number."""
+        changed = {}
+        single = []
+        furthest = at
+        last = None
+        while last is None and at <= furthest:
+            if number is not None and number != self.numbers[at]:
+                if furthest == at:
+                    changed = {}
+                    single.append((at, number))
+                    last = self.lasts.get((at, number))
+                changed[at] = number
+                furthest = max(furthest, self.uses[at])
+            at += 1
+            if last is None and at <= furthest:
+                number = self.told_anew(at, changed)
+        if last is None:
+            last = changed.get(len(self.kept) - 1, self.numbers[-1])
+        for key in single:
+            self.lasts[key] = last
+        return last
+
+    def is_idle(self, at):
+        """Whether the mark of the sheet stays if a part is replaced by `yes`, and if it is by `no`."""
+        steps = [self.derivation.number_of_step((word,)) for word in ("yes", "no")]
+        lasts = [self.last_with(at, step) for step in steps]
+        return lasts == [self.numbers[-1], self.numbers[-1]]
 
 
 def idle(alphabet, sheet):
     """The numbers of the parts that may be replaced by `yes` and by `no` without changing the mark."""
     kept = tense_sheet(alphabet, sheet)
-    derivation = Derivation(alphabet)
-    numbers = derivation.numbers_of(kept)
-    waiting = references(kept)
-    found = []
-    for at in range(len(kept)):
-        with_yes = last_with(derivation, kept, numbers, waiting, at, ("yes",))
-        with_no = last_with(derivation, kept, numbers, waiting, at, ("no",))
-        if with_yes == numbers[-1] and with_no == numbers[-1]:
-            found.append(at)
-    return tuple(found)
+    replacing = Replacing(alphabet, kept)
+    return tuple([at for at in range(len(kept)) if replacing.is_idle(at)])
