@@ -83,35 +83,44 @@ def places_kept(deed, length):
 
 
 class Trial:
-    """A block behind which a desk is what it was when the block was entered."""
+    """A block behind which a desk is what it was when the block was entered.
+
+    Within the block a desk has a state more, as deep as blocks stand within one another; the last one counts.
+    """
 
     def __init__(self, desk):
         self.desk = desk
-        self.kept = desk.state
 
     def __enter__(self):
-        self.kept = self.desk.state
+        desk = self.desk
+        desk.states = desk.states[:desk.depth + 1] + [desk.state_now()]
+        desk.depth += 1
         return self
 
     def __exit__(self, kind, value, trace):
         desk = self.desk
-        desk.state = self.kept
+        desk.depth -= 1
 
 
 class Desk:
-    """A live row, marks by their names, and deeds; its state is the row, the deeds done, and those undone."""
+    """A live row, marks by their names, and deeds; a state of it is the row, the deeds done, and those undone."""
 
     def __init__(self, alphabet, row, marks):
         check_alphabet(alphabet)
         check_row(alphabet, row)
         self.alphabet = alphabet
         self.worn = kept_marks(alphabet, marks)
-        self.state = (row, (), ())
+        self.states = [(row, (), ())]
+        self.depth = 0
+
+    def state_now(self):
+        """The state that counts."""
+        return self.states[self.depth]
 
     @property
     def live(self):
         """The live row."""
-        return self.state[0]
+        return self.state_now()[0]
 
     @live.setter
     def live(self, value):
@@ -125,27 +134,27 @@ class Desk:
     @property
     def log(self):
         """The deeds done and not undone."""
-        return self.state[1]
+        return self.state_now()[1]
 
     def moved(self, deed, done, undone):
         """Do a deed, with these deeds done and undone from then on: what turned."""
-        before = self.state[0]
+        before = self.state_now()[0]
         row = row_behind(before, deed)
         places = places_kept(deed, len(before))
         turned = []
         for name, pair in self.worn:
             old, new = marks_in(pair, before), marks_in(pair, row)
             turned = turned + [(name, there) for here, there in places if old[here] != new[there]]
-        self.state = (row, done, undone)
+        self.states[self.depth] = (row, done, undone)
         return tuple(sorted(turned))
 
     def doing(self, deed):
         """Do a new deed: what turned."""
-        return self.moved(deed, self.state[1] + (deed,), ())
+        return self.moved(deed, self.state_now()[1] + (deed,), ())
 
     def put(self, place, letter):
         """Put a letter in at a place."""
-        row = self.state[0]
+        row = self.state_now()[0]
         if not is_below(place, len(row) + 1):
             raise BadPlace(place)
         check_letter(self.alphabet, letter)
@@ -155,30 +164,30 @@ class Desk:
 
     def take(self, place):
         """Take the letter at a place out."""
-        check_place(self.state[0], place)
-        return self.doing(("take", place, self.state[0][place]))
+        check_place(self.state_now()[0], place)
+        return self.doing(("take", place, self.state_now()[0][place]))
 
     def change(self, place, letter):
         """Replace the letter at a place."""
-        check_place(self.state[0], place)
+        check_place(self.state_now()[0], place)
         check_letter(self.alphabet, letter)
-        return self.doing(("change", place, self.state[0][place], letter))
+        return self.doing(("change", place, self.state_now()[0][place], letter))
 
     def become(self, row):
         """Replace the whole row."""
         check_row(self.alphabet, row)
-        return self.doing(("become", self.state[0], row))
+        return self.doing(("become", self.state_now()[0], row))
 
     def undo(self):
         """Undo the last deed done."""
-        row, done, undone = self.state
+        row, done, undone = self.state_now()
         if not done:
             raise NoDeed("undo")
         return self.moved(turned_back(done[-1]), done[:-1], undone + (done[-1],))
 
     def redo(self):
         """Do again what was undone last."""
-        row, done, undone = self.state
+        row, done, undone = self.state_now()
         if not undone:
             raise NoDeed("redo")
         return self.moved(undone[-1], done + (undone[-1],), undone[:-1])
@@ -192,7 +201,7 @@ class Desk:
 
     def marks(self, name):
         """For each place of the live row, whether the mark of this name marks it."""
-        return marks_in(self.pair_called(name), self.state[0])
+        return marks_in(self.pair_called(name), self.state_now()[0])
 
     def trial(self):
         """A block behind which the desk is what it was."""
@@ -218,7 +227,7 @@ class Desk:
     def copy(self):
         """A desk that is as this one is, and goes on by itself."""
         other = Desk(self.alphabet, "", self.worn)
-        other.state = self.state
+        other.states = [self.state_now()]
         return other
 
     def told_deed(self, deed):
@@ -252,5 +261,5 @@ class Desk:
         with self.trial():
             for deed in kept:
                 found = self.told_deed(deed)
-                told.append((found, self.state[0]))
+                told.append((found, self.state_now()[0]))
         return tuple(told)

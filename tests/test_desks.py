@@ -379,6 +379,14 @@ class Trials(unittest.TestCase):
         trial = desk.trial()
         with trial:
             desk.become("a")
+            with trial:
+                desk.become("bbbb")
+            self.assertEqual(desk.live, "a")
+            with self.assertRaises(BadPlace):
+                with trial:
+                    desk.undo()
+                    desk.take(9)
+            self.assertEqual((desk.live, desk.undo(), desk.live), ("a", (), "bab"))
         self.assertEqual(all_of(desk), before)
         desk.become("bb")
         # What counts is when the block is entered.

@@ -556,8 +556,12 @@ class TheLanguage(unittest.TestCase):
                 if isinstance(node, ast.FunctionDef) and node.name == "__exit__":
                     self.assertEqual([arg.arg for arg in node.args.args], ["self", "kind", "value", "trace"])
                     for one in node.body:
-                        self.assertIsInstance(one, ast.Assign, (name, one.lineno))
-                        self.assertIsInstance(one.value, ast.Attribute, (name, one.lineno))
+                        if isinstance(one, ast.AugAssign):
+                            self.assertIsInstance(one.target, ast.Attribute, (name, one.lineno))
+                            self.assertIsInstance(one.value, ast.Constant, (name, one.lineno))
+                        else:
+                            self.assertIsInstance(one, ast.Assign, (name, one.lineno))
+                            self.assertIsInstance(one.value, ast.Attribute, (name, one.lineno))
 
     def test_decorators(self):
         for name, tree in self.each():
