@@ -82,24 +82,31 @@ def places_kept(deed, length):
     return [(place, place) for place in range(length)] if word == "change" else []
 
 
-class Trial:
-    """A block behind which a desk is what it was when the block was entered.
+class Kept:
+    """The state of a desk in a block; below it is what counts again behind the block."""
 
-    Within the block a desk has a state more, as deep as blocks stand within one another; the last one counts.
+    def __init__(self, state, below):
+        self.state = state
+        self.below = below
+
+
+class Trial:
+    """What all blocks of a desk are entered by: behind a block the desk is what it was when the block was entered.
+
+    Each block entered has one thing more on the top, and deeds change that alone: all below stays as it was.
     """
 
-    def __init__(self, desk):
-        self.desk = desk
+    def __init__(self, state):
+        self.top = Kept(state, None)
 
     def __enter__(self):
-        desk = self.desk
-        desk.states = desk.states[:desk.depth + 1] + [desk.state_now()]
-        desk.depth += 1
+        top = self.top
+        self.top = Kept(top.state, top)
         return self
 
     def __exit__(self, kind, value, trace):
-        desk = self.desk
-        desk.depth -= 1
+        top = self.top
+        self.top = top.below
 
 
 class Desk:
@@ -110,12 +117,11 @@ class Desk:
         check_row(alphabet, row)
         self.alphabet = alphabet
         self.worn = kept_marks(alphabet, marks)
-        self.states = [(row, (), ())]
-        self.depth = 0
+        self.trials = Trial((row, (), ()))
 
     def state_now(self):
         """The state that counts."""
-        return self.states[self.depth]
+        return self.trials.top.state
 
     @property
     def live(self):
@@ -145,7 +151,8 @@ class Desk:
         for name, pair in self.worn:
             old, new = marks_in(pair, before), marks_in(pair, row)
             turned = turned + [(name, there) for here, there in places if old[here] != new[there]]
-        self.states[self.depth] = (row, done, undone)
+        top = self.trials.top
+        top.state = (row, done, undone)
         return tuple(sorted(turned))
 
     def doing(self, deed):
@@ -204,8 +211,8 @@ class Desk:
         return marks_in(self.pair_called(name), self.state_now()[0])
 
     def trial(self):
-        """A block behind which the desk is what it was."""
-        return Trial(self)
+        """What a block is entered by behind which the desk is what it was."""
+        return self.trials
 
     def put_on(self, name, pair):
         """Put a mark on the desk."""
@@ -227,7 +234,7 @@ class Desk:
     def copy(self):
         """A desk that is as this one is, and goes on by itself."""
         other = Desk(self.alphabet, "", self.worn)
-        other.states = [self.state_now()]
+        other.trials = Trial(self.state_now())
         return other
 
     def told_deed(self, deed):

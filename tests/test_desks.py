@@ -92,6 +92,15 @@ def deed_by_chance(source, alphabet, length, undone, done):
     return "put", 0, alphabet[0]
 
 
+def do_by_chance(source, desk):
+    """Do a deed, or find that there is none to be undone or done again."""
+    deed = deed_by_chance(source, "ab", len(desk.live), True, True)
+    try:
+        getattr(desk, deed[0])(*deed[1:])
+    except NoDeed:
+        pass
+
+
 def all_of(desk):
     """All that a desk shows, and what can be undone and done again."""
     other = desk.copy()
@@ -394,6 +403,123 @@ class Trials(unittest.TestCase):
             desk.become("a")
         self.assertEqual(desk.live, "bb")
 
+    def test_two_trials_of_one_desk(self):
+        desk = self.desk()
+        before = all_of(desk)
+        outer, inner = desk.trial(), desk.trial()
+        with outer:
+            desk.become("a")
+            first = all_of(desk)
+            with inner:
+                desk.become("bb")
+                second = all_of(desk)
+                with outer:
+                    desk.undo()
+                    desk.undo()
+                    with inner:
+                        desk.become("aaaa")
+                    self.assertEqual(desk.live, "bab")
+                self.assertEqual(all_of(desk), second)
+            self.assertEqual(all_of(desk), first)
+        self.assertEqual(all_of(desk), before)
+        with inner, outer, inner:
+            desk.become("")
+        self.assertEqual(all_of(desk), before)
+
+    def test_a_trial_entered_again_after_its_block(self):
+        desk = self.desk()
+        trial = desk.trial()
+        for row in ("", "a", "bb"):
+            with trial:
+                desk.become("abab")
+            desk.become(row)
+            before = all_of(desk)
+            with self.assertRaises(BadRow):
+                with trial:
+                    desk.undo()
+                    desk.become("c")
+            self.assertEqual(all_of(desk), before)
+        self.assertEqual([desk.undo(), desk.undo(), desk.undo()], [(), (), ()])
+        self.assertEqual((desk.live, desk.log), ("bab", (("put", 0, "b"),)))
+
+    def test_undo_and_redo_in_a_block(self):
+        desk = self.desk()
+        with desk.trial():
+            self.assertEqual((desk.redo(), desk.live), ((("letter", 1), ("next", 0)), "bbb"))
+            with desk.trial():
+                desk.undo()
+                desk.undo()
+                self.assertEqual((desk.live, desk.log), ("ab", ()))
+                self.assertRaises(NoDeed, desk.undo)
+                desk.redo()
+                desk.redo()
+                self.assertRaises(NoDeed, desk.redo)
+            self.assertEqual((desk.live, len(desk.log)), ("bbb", 2))
+            desk.undo()
+            desk.undo()
+            self.assertEqual(desk.live, "ab")
+        # Behind it the same can be undone and done again as ahead of it.
+        desk.redo()
+        self.assertEqual(desk.live, "bbb")
+        desk.undo()
+        desk.undo()
+        self.assertEqual((desk.live, desk.log), ("ab", ()))
+        desk.redo()
+        desk.redo()
+        self.assertRaises(NoDeed, desk.redo)
+        self.assertEqual(desk.live, "bbb")
+
+    def test_what_was_kept_ahead_of_the_block(self):
+        desk = self.desk()
+        other, state, log, told = desk.copy(), desk.state_now(), desk.log, desk.marks("next")
+        kept = all_of(other)
+        shown = (("bab", (("put", 0, "b"),), (("change", 1, "a", "b"),)), (("put", 0, "b"),), (False, True, False))
+        self.assertEqual((state, log, told), shown)
+        with desk.trial():
+            desk.become("")
+            desk.put(0, "b")
+            within = desk.state_now()
+            with desk.trial():
+                desk.undo()
+                self.assertEqual((within[0], state, log, told), ("b",) + shown)
+            self.assertEqual(desk.state_now(), within)
+        self.assertEqual((state, log, told), shown)
+        self.assertEqual((within[0], len(within[1]), within[2]), ("b", 3, ()))
+        self.assertEqual((desk.state_now(), all_of(desk), all_of(other)), (state, kept, kept))
+
+    def test_trials_of_two_desks(self):
+        one, two = self.desk(), Desk("ab", "b", MARKS)
+        before = all_of(one), all_of(two)
+        with one.trial():
+            one.become("")
+            with two.trial():
+                two.become("aa")
+                one.put(0, "a")
+            self.assertEqual((one.live, all_of(two)), ("a", before[1]))
+            two.become("ba")
+        self.assertEqual((all_of(one), two.live), (before[0], "ba"))
+
+    def test_by_chance(self):
+        source = chance(503)
+        for _ in range(30):
+            desk = self.desk()
+            self.block(source, desk, [desk.trial(), desk.trial()], 4)
+
+    def block(self, source, desk, trials, deep):
+        """Do deeds in a block, and blocks in it; some end with an error. Behind it all is what it was."""
+        before = all_of(desk)
+        try:
+            with source.choice(trials + [desk.trial()]):
+                for _ in range(source.randint(0, 4)):
+                    do_by_chance(source, desk)
+                    if deep:
+                        self.block(source, desk, trials, deep - 1)
+                if source.random() < 0.4:
+                    raise ZeroDivisionError
+        except ZeroDivisionError:
+            pass
+        self.assertEqual(all_of(desk), before)
+
     def test_marks_put_on_and_taken_off(self):
         desk = self.desk()
         with desk.trial():
@@ -512,26 +638,19 @@ class Copies(unittest.TestCase):
         for _ in range(20):
             desk = Desk("ab", "ab", MARKS)
             for _ in range(12):
-                self.deed(source, desk)
+                do_by_chance(source, desk)
             before = all_of(desk)
             other = desk.copy()
             self.assertIsInstance(other, Desk)
             self.assertEqual(all_of(other), before)
             for _ in range(12):
-                self.deed(source, other)
+                do_by_chance(source, other)
             other.take_off("next")
             self.assertEqual(all_of(desk), before)
             after = all_of(other)
             desk.become("")
             desk.put_on("more", LETTER)
             self.assertEqual(all_of(other), after)
-
-    def deed(self, source, desk):
-        deed = deed_by_chance(source, "ab", len(desk.live), True, True)
-        try:
-            getattr(desk, deed[0])(*deed[1:])
-        except NoDeed:
-            pass
 
     def test_a_copy_made_in_a_trial(self):
         desk = Desk("ab", "ab", MARKS)

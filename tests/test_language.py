@@ -258,6 +258,98 @@ class WhatOperatorsRun(unittest.TestCase):
                     self.assertNotIn(node.func.id, held, (file, function.name, node.lineno))
 
 
+ARITHMETIC = set("add sub mul floordiv mod pow and or xor lshift rshift".split())
+COMPARING = set("eq ne lt le gt ge".split())
+
+
+def done_when_left(tree):
+    """The rows that are run when a block is left: of each `__exit__`, of what it calls of its own object, of `finally`."""
+    found = []
+    for node in ast.walk(tree):
+        if isinstance(node, ast.Try):
+            found.append(node.finalbody)
+        for one in node.body if isinstance(node, ast.ClassDef) else []:
+            if isinstance(one, ast.FunctionDef) and one.name == "__exit__":
+                found.append(one.body)
+                calls = [call.func.attr for call in ast.walk(one) if isinstance(call, ast.Call) and isinstance(call.func, ast.Attribute)]
+                found += [other.body for other in node.body if getattr(other, "name", "") in calls]
+    return [row for body in found for row in body]
+
+
+def signs_when_left(tree, methods):
+    """The rows on which, when a block is left, there is a sign that a method among these might be called for."""
+    found = []
+    for row in done_when_left(tree):
+        for node in ast.walk(row):
+            sign = getattr(node, "op", None)
+            if methods & ARITHMETIC and isinstance(sign, (ast.Add, ast.Sub)):
+                found.append(node.lineno)
+            if methods & COMPARING and isinstance(node, ast.Compare):
+                found.append(node.lineno)
+            if "bool" in methods and isinstance(node, (ast.If, ast.IfExp, ast.BoolOp, ast.Not)):
+                found.append(getattr(node, "lineno", row.lineno))
+    return found
+
+
+LEAVING = """
+class Trial:
+    def __exit__(self, kind, value, trace):
+        net = self.net
+        net.depth -= 1
+        net.depth += 1
+        net.depth = net.depth - 1
+        net.rows = (net.rows + net.others,)
+        if net.depth:
+            net.depth = 0
+        net.word = net.depth == 0
+        self.shut()
+    def shut(self):
+        self.many -= 1
+def other(box):
+    try:
+        box.many += 1
+    finally:
+        box.many -= 1
+        box.many = box.many
+    box.many -= 1
+"""
+
+
+class WhenABlockIsLeft(unittest.TestCase):
+    def test_what_is_found(self):
+        tree = ast.parse(LEAVING)
+        self.assertEqual(sorted(signs_when_left(tree, {"mul"})), [5, 6, 7, 8, 14, 19])
+        self.assertEqual(signs_when_left(tree, {"eq"}), [11])
+        self.assertEqual(signs_when_left(tree, {"bool"}), [9])
+        self.assertEqual(signs_when_left(tree, {"len", "call"}), [])
+
+    def test_no_method_might_be_called_for_by_a_sign(self):
+        methods = {name[2:-2] for name in definitions() if name.startswith("__")}
+        for name in ("mul", "and", "eq", "bool"):
+            self.assertIn(name, methods)
+        for name, tree in trees().items():
+            self.assertEqual(signs_when_left(tree, methods), [], name)
+
+    def test_only_plain_rows(self):
+        left = {name: done_when_left(tree) for name, tree in trees().items()}
+        self.assertEqual([name for name in left if left[name]], ["desks.py"])
+        for row in left["desks.py"]:
+            self.assertIsInstance(row, ast.Assign, row.lineno)
+            self.assertEqual(len(row.targets), 1, row.lineno)
+            for side in (row.targets[0], row.value):
+                # A name, or an attribute off a name.
+                base = side.value if isinstance(side, ast.Attribute) else side
+                self.assertIsInstance(base, ast.Name, row.lineno)
+
+    def test_what_they_take(self):
+        for name, tree in trees().items():
+            for node in ast.walk(tree):
+                if isinstance(node, ast.FunctionDef) and node.name == "__exit__":
+                    self.assertEqual([arg.arg for arg in node.args.args], ["self", "kind", "value", "trace"])
+                    read = {one.id for one in ast.walk(node) if isinstance(one, ast.Name)}
+                    self.assertEqual(read & {"kind", "value", "trace"}, set(), name)
+
+
 def called_by_name(node, names):
     return isinstance(node, ast.Call) and isinstance(node.func, ast.Name) and node.func.id in names
 
@@ -548,20 +640,6 @@ class TheLanguage(unittest.TestCase):
             for node in ast.walk(tree):
                 if called_by_name(node, ("reversed",)):
                     self.assertTrue(called_by_name(node.args[0], good), (name, node.lineno))
-
-    def test_what_leaves_a_block(self):
-        # Only plain statements stand in what is done when a block is left.
-        for name, tree in self.each():
-            for node in ast.walk(tree):
-                if isinstance(node, ast.FunctionDef) and node.name == "__exit__":
-                    self.assertEqual([arg.arg for arg in node.args.args], ["self", "kind", "value", "trace"])
-                    for one in node.body:
-                        if isinstance(one, ast.AugAssign):
-                            self.assertIsInstance(one.target, ast.Attribute, (name, one.lineno))
-                            self.assertIsInstance(one.value, ast.Constant, (name, one.lineno))
-                        else:
-                            self.assertIsInstance(one, ast.Assign, (name, one.lineno))
-                            self.assertIsInstance(one.value, ast.Attribute, (name, one.lineno))
 
     def test_decorators(self):
         for name, tree in self.each():
